@@ -1,0 +1,69 @@
+package poly
+
+import "math/bits"
+
+// top is above all primes that are taken: a sum of two residues fits into 64 bits.
+const top = 1 << 62
+
+// belowTop is how far below top the first primes are: few divisors need more, and these have not to be searched for.
+var belowTop = [32]uint64{
+	57, 87, 117, 143, 153, 167, 171, 195, 203, 273, 287, 317, 443, 483, 495, 575,
+	581, 603, 633, 663, 765, 773, 777, 791, 813, 831, 923, 981, 993, 1001, 1007, 1017,
+}
+
+// witnesses tell every number below 2^64 that is no prime, one of them at least (Sorenson, Webster).
+var witnesses = [12]uint64{2, 3, 5, 7, 11, 13, 17, 19, 23, 29, 31, 37}
+
+// primes tells the primes below top, one after the other, from the greatest on.
+type primes struct {
+	told int
+	last uint64
+}
+
+func (s *primes) next() uint64 {
+	if s.told < len(belowTop) {
+		s.last = top - belowTop[s.told]
+	} else {
+		s.last = primeBelow(s.last)
+	}
+	s.told++
+	return s.last
+}
+
+// primeBelow tells the greatest prime below n, which is odd and far above the witnesses.
+func primeBelow(n uint64) uint64 {
+	for n -= 2; !isPrime(n); n -= 2 {
+	}
+	return n
+}
+
+func isPrime(n uint64) bool {
+	for _, w := range witnesses {
+		if n%w == 0 {
+			return false
+		}
+	}
+	for _, w := range witnesses {
+		if !passes(n, w) {
+			return false
+		}
+	}
+	return true
+}
+
+// passes tells whether the odd n looks like a prime to w (Miller, Rabin): modulo a prime 1 has no square roots but 1
+// and -1.
+func passes(n, w uint64) bool {
+	f, twos := field{n}, bits.TrailingZeros64(n-1)
+	x := f.power(w, (n-1)>>uint(twos))
+	if x == 1 {
+		return true
+	}
+	for range twos {
+		if x == n-1 {
+			return true
+		}
+		x = f.times(x, x)
+	}
+	return false
+}
