@@ -90,12 +90,13 @@ func (f field) rest(a, b []uint64) []uint64 {
 	return withoutNoughts(a[:min(last, len(a))])
 }
 
-// divisor tells the greatest common divisor of a and b, both not 0, with the lead 1; both are changed.
+// divisor tells the greatest common divisor of a and b, both not 0, with the lead 1.
 func (f field) divisor(a, b []uint64) []uint64 {
 	return lastRest(f.monic(a), f.monic(b), f.rest, f.monic)
 }
 
-// lastRest tells the last remainder that is not 0, of a and b, of b and their remainder, and so on.
+// lastRest tells the last remainder that is not 0, of a and b, of b and their remainder, and so on; both leads are 1,
+// and both lists may be changed.
 func lastRest(a, b []uint64, rest func(a, b []uint64) []uint64, monic func(a []uint64) []uint64) []uint64 {
 	for {
 		r := rest(a, b)
