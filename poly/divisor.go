@@ -3,6 +3,7 @@ package poly
 import (
 	"terrace/api"
 	"terrace/big"
+	"terrace/residue"
 )
 
 // divisor tells the greatest common divisor of a and b: that of their contents times that of what is left of them.
@@ -29,11 +30,11 @@ func positive(p api.Poly) api.Poly {
 // a divisor's degree too low, and few make it too high.
 func primitiveDivisor(a, b api.Poly) api.Poly {
 	scale, _ := big.Gcd(lead(a), lead(b))
-	var stock primes
-	var sofar gathered
+	var stock residue.Primes
+	var sofar residue.Known
 	for {
-		f := field{stock.next()}
-		factor := f.residue(scale)
+		f := field{stock.Next()}
+		factor := f.Of(scale)
 		if factor == 0 {
 			continue
 		}
@@ -41,16 +42,16 @@ func primitiveDivisor(a, b api.Poly) api.Poly {
 		switch {
 		case len(g) == 1:
 			return api.Poly{big.From(1)}
-		case sofar.len() > 0 && len(g) > sofar.len():
+		case len(sofar.Numbers) > 0 && len(g) > len(sofar.Numbers):
 			continue
-		case len(g) != sofar.len():
-			sofar = begun(len(g))
+		case len(g) != len(sofar.Numbers):
+			sofar = residue.Nothing(len(g))
 		}
-		if sofar.take(f, f.scaled(g, factor)) {
+		if sofar.Take(f.Field, f.scaled(g, factor)) {
 			continue
 		}
 		// A prime has changed nothing: that may be it.
-		if g := primitive(sofar.sum); divides(g, a) && divides(g, b) {
+		if g := primitive(sofar.Numbers); divides(g, a) && divides(g, b) {
 			return g
 		}
 	}
@@ -59,33 +60,4 @@ func primitiveDivisor(a, b api.Poly) api.Poly {
 func divides(b, a api.Poly) bool {
 	_, ok := quotient(a, b)
 	return ok
-}
-
-// gathered is what is known of a polynomial modulo a product of primes: its coefficients nearest to 0.
-type gathered struct {
-	sum     api.Poly
-	modulus api.Int
-}
-
-func begun(n int) gathered {
-	return gathered{sum: room(n), modulus: big.From(1)}
-}
-
-func (s *gathered) len() int {
-	return len(s.sum)
-}
-
-// take adds what is known modulo one prime more, and tells whether that changed anything.
-func (s *gathered) take(f field, image []uint64) bool {
-	changed := false
-	inverse := f.inverse(f.residue(s.modulus))
-	for i, c := range s.sum {
-		step := f.times(f.minus(image[i], f.residue(c)), inverse)
-		if step != 0 {
-			s.sum[i] = plus(c, times(s.modulus, f.nearest(step)))
-			changed = true
-		}
-	}
-	s.modulus = times(s.modulus, api.Int{Mag: api.Nat{f.p}})
-	return changed
 }
