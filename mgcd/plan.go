@@ -1,0 +1,219 @@
+package mgcd
+
+import (
+	"cmp"
+	"slices"
+
+	"terrace/api"
+	"terrace/residue"
+)
+
+// plan is how a common divisor of a and b is looked for: modulo primes, as a polynomial in x that goes through what
+// shows where the other variables are numbers (Zippel). What is sought is the divisor, or, where that is the lesser
+// part, what is left of a when the divisor is taken out; without what of it x does not stand in, but with a lead, by
+// x, that is known.
+type plan struct {
+	a, b     sum
+	x        int
+	degree   int  // the divisor's, in x
+	rest     bool // whether what is left of a is sought
+	lead     sum
+	others   []int // the other variables
+	bounds   []int // of the degrees in them of what is sought
+	top      int   // what is sought has this degree in x
+	inA, inB int   // a's and b's degrees in x
+}
+
+// support is, for each power of x that is below the top, the products of other variables that stand with it.
+type support [][]mono
+
+// planned takes, of all variables and both things that may be sought of a and b, those that let the least degrees be
+// gone through; shared are the divisor's degrees.
+func planned(a, b sum, shared degrees) *plan {
+	var best *plan
+	least := 0
+	for x := range shared {
+		if shared[x] == 0 {
+			continue
+		}
+		for _, p := range []*plan{{a: a, b: b, x: x}, {a: a, b: b, x: x, rest: true}, {a: b, b: a, x: x, rest: true}} {
+			if n := p.cost(shared); best == nil || n < least {
+				best, least = p, n
+			}
+		}
+	}
+	best.prepare(shared)
+	return best
+}
+
+// cost tells the sum of the degrees to go through, at the most.
+func (p *plan) cost(shared degrees) int {
+	n := 0
+	whole, lead, other := p.a.degrees(), p.a.top(p.x).degrees(), p.b.top(p.x).degrees()
+	for v := range shared {
+		switch {
+		case v == p.x:
+		case p.rest:
+			n += whole[v] - shared[v] + lead[v]
+		default:
+			n += shared[v] + min(lead[v], other[v])
+		}
+	}
+	return n
+}
+
+// prepare finds the lead: one that the sought polynomial's own lead divides.
+func (p *plan) prepare(shared degrees) {
+	sought, high := shared, p.a.degrees()
+	p.lead = p.a.top(p.x)
+	if p.rest {
+		for v := range sought {
+			sought[v] = high[v] - shared[v]
+		}
+	} else {
+		p.lead = common([]sum{p.lead, p.b.top(p.x)})
+	}
+	p.degree, p.top, p.inA, p.inB = shared[p.x], sought[p.x], high[p.x], p.b.degrees()[p.x]
+	lead := p.lead.degrees()
+	for v := range sought {
+		if sought[v] += lead[v]; v != p.x && sought[v] > 0 {
+			p.others = append(p.others, v)
+		}
+	}
+	slices.SortStableFunc(p.others, func(v, w int) int { return cmp.Compare(sought[w], sought[v]) })
+	for _, v := range p.others {
+		p.bounds = append(p.bounds, sought[v])
+	}
+}
+
+// sought tells what is sought, its numbers by as many primes as change them.
+func (p *plan) sought(l *luck) sum {
+	s := l.next()
+	where := p.support(s)
+	known := residue.Nothing(where.count())
+	all := set(p.others...)
+	for known.Take(s.Field, p.coefficients(s, where, p.courses(s, all, all))) {
+		s = l.next()
+	}
+	return p.joined(where, known.Numbers)
+}
+
+func (w support) count() int {
+	n := 0
+	for _, l := range w {
+		n += len(l)
+	}
+	return n
+}
+
+// joined lays numbers where they stand, and the lead ahead of them.
+func (p *plan) joined(where support, numbers []api.Int) sum {
+	var out sum
+	for _, t := range p.lead {
+		out = append(out, term{at: t.at.times(power(p.x, p.top)), coef: t.coef})
+	}
+	for e, l := range where {
+		for _, m := range l {
+			out = append(out, term{at: m.times(power(p.x, e)), coef: numbers[0]})
+			numbers = numbers[1:]
+		}
+	}
+	return gathered(out)
+}
+
+// support tells what stands where, by one variable more each time: the others stay at the spot.
+func (p *plan) support(s *spot) support {
+	where := make(support, p.top)
+	for e := range where {
+		where[e] = []mono{{}}
+	}
+	for k := range p.others {
+		where = p.widened(s, where, k)
+		if where.count() > longest {
+			panic(endless{})
+		}
+	}
+	return where
+}
+
+// widened takes the k-th of the others through the powers of its number: what stands with each power of x and of those
+// ahead of it is then a polynomial in it alone.
+func (p *plan) widened(s *spot, where support, k int) support {
+	v := p.others[k]
+	nodes := make([]uint64, p.bounds[k]+1)
+	for e := range nodes {
+		nodes[e] = s.Power(s.at[v], uint64(e))
+	}
+	found := s.exponents(nodes, p.laws(s, where, k))
+	out := make(support, len(where))
+	for e, l := range where {
+		for i, m := range l {
+			for _, exp := range found[i] {
+				out[e] = append(out[e], m.times(power(v, exp)))
+			}
+		}
+		found = found[len(l):]
+	}
+	return out
+}
+
+// laws goes on till all have settled, but no further than there may be exponents: then the numbers alone tell all.
+func (p *plan) laws(s *spot, where support, k int) []law {
+	sofar := set(p.others[:k]...)
+	outer := p.courses(s, sofar.times(set(p.others[k])), set(p.others[k]))
+	inner := p.courses(s, sofar, sofar)
+	out := make([]law, where.count())
+	for n, settled := 0, false; n <= p.bounds[k] && !settled; n++ {
+		outer.advance(s.field)
+		inner.startAt(outer)
+		settled = true
+		for i, c := range p.coefficients(s, where, inner) {
+			out[i].take(s.field, c)
+			settled = settled && out[i].settled()
+		}
+	}
+	return out
+}
+
+// coefficients tells the numbers of what is sought, where they stand, by as many steps of the courses as the longest
+// list has products.
+func (p *plan) coefficients(s *spot, where support, c *courses) []uint64 {
+	steps := 0
+	for _, l := range where {
+		steps = max(steps, len(l))
+	}
+	sums := make([][]uint64, len(where)) // of each power of x, step by step
+	for range steps {
+		for e, n := range p.sight(s, c) {
+			sums[e] = append(sums[e], n)
+		}
+	}
+	var out []uint64
+	for e, l := range where {
+		nodes := make([]uint64, len(l))
+		for i, m := range l {
+			nodes[i] = s.worth(m)
+		}
+		out = append(out, s.solved(nodes, sums[e:e+1])[0]...)
+	}
+	return out
+}
+
+// sight tells what of the sought polynomial shows at the next point, without its lead.
+func (p *plan) sight(s *spot, c *courses) []uint64 {
+	c.advance(s.field)
+	a, b := c.a.image(s.field, p.inA), c.b.image(s.field, p.inB)
+	if len(a) <= p.inA || len(b) <= p.inB {
+		panic(unlucky{})
+	}
+	g := s.lastRest(slices.Clone(a), b)
+	if len(g) != p.degree+1 {
+		panic(unlucky{})
+	}
+	inverse := s.Inverse(g[p.degree])
+	if p.rest {
+		return s.ratio(a, s.scaled(g, inverse))[:p.top]
+	}
+	lead := c.lead.image(s.field, 0)
+	return s.scaled(g, s.Times(inverse, lead[0]))[:p.top]
+}
