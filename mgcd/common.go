@@ -11,9 +11,10 @@ import (
 const (
 	longest = 1 << 16 // terms of a divisor on the way to another one
 	widest  = 1 << 24 // products of terms that are held at once
+	tries   = 1 << 10 // of a search; a second one is next to never needed
 )
 
-// endless is thrown where a divisor has too many terms to be written out.
+// endless is thrown where a divisor has too many terms to be written out, or does not show.
 type endless struct{}
 
 // common tells the greatest common divisor of all sums, its lead positive; 0, if all are 0. It calls itself, by way of
@@ -75,11 +76,12 @@ func (l *luck) mixture(list []sum) sum {
 func shared(a, b sum) sum {
 	l, d := &luck{}, strides(a, b)
 	a, b = a.shrunk(d), b.shrunk(d)
-	for {
+	for range tries {
 		if g, ok := l.attempt(a, b); ok {
 			return g.stretched(d)
 		}
 	}
+	panic(endless{})
 }
 
 // attempt tells the greatest common divisor, unless luck is bad. It is proved by what it divides and by its degrees,
