@@ -1,7 +1,8 @@
 package mgcd
 
 import (
-	"container/heap"
+	"math"
+	"slices"
 
 	"terrace/api"
 	"terrace/big"
@@ -13,71 +14,82 @@ type outcome int
 const (
 	even outcome = iota // there is a quotient
 	none                // there is none
-	long                // there is one, with more terms than were asked for
+	open                // if there is one, it has more terms than were asked for
 )
 
-// doubtful is how many terms a quotient has when it is asked whether there is one at all: one that there is not may go
+// doubtful is how many terms a quotient has when spots are asked whether there may be one: one that there is not may go
 // on for very long.
 const doubtful = 256
 
-// front is the next product of a term of the quotient with one of the divisor that is to be taken out.
+// front is the next product of a term of the divisor with one of the quotient that is to be taken out.
 type front struct {
-	at      mono
-	quo, by int
+	at mono
+	by int
 }
 
 // fronts is a heap, the greatest one first.
 type fronts []front
 
-func (h fronts) Len() int           { return len(h) }
-func (h fronts) Less(i, j int) bool { return h[i].at.compare(h[j].at) > 0 }
-func (h fronts) Swap(i, j int)      { h[i], h[j] = h[j], h[i] }
-func (h *fronts) Push(x any)        { *h = append(*h, x.(front)) }
-
-func (h *fronts) Pop() any {
-	last := len(*h) - 1
-	x := (*h)[last]
-	*h = (*h)[:last]
-	return x
+// add lays f in its place, from the end upwards.
+func (h *fronts) add(f front) {
+	*h = append(*h, f)
+	list, i := *h, len(*h)-1
+	for i > 0 && list[(i-1)/2].at.compare(f.at) < 0 {
+		list[i] = list[(i-1)/2]
+		i = (i - 1) / 2
+	}
+	list[i] = f
 }
 
-// division goes down over what is left of a sum, without ever writing it out (Johnson): there are as many fronts as
-// terms of the quotient.
+// replace lays f in its place, from the first one's downwards, which is left out.
+func (h fronts) replace(f front) {
+	i := 0
+	for {
+		next := 2*i + 1
+		if next+1 < len(h) && h[next+1].at.compare(h[next].at) > 0 {
+			next++
+		}
+		if next >= len(h) || h[next].at.compare(f.at) <= 0 {
+			break
+		}
+		h[i] = h[next]
+		i = next
+	}
+	h[i] = f
+}
+
+// division goes down over what is left of a sum, without ever writing it out (Johnson): there are at most as many
+// fronts as terms of the divisor, since it is quotients that may be endless (Monagan, Pearce).
 type division struct {
-	by   sum
-	room mono // above which no exponent of the quotient is
-	most int  // bits of a quotient's number
-	quo  sum
-	next fronts
+	by     sum
+	room   mono // above which no exponent of the quotient is
+	most   int  // bits of a quotient's number
+	size   int  // how many terms the quotient has
+	quo    sum  // the last ones of them: all, if they are kept, or those that are still needed
+	keep   bool
+	reach  []int // for each of the divisor's terms with how many of the quotient's it has been taken out
+	fronts fronts
+	idle   []int // those of the divisor's terms that wait for the quotient's next one
 }
 
 // quotient tells q with a = q b, if there is one, of at most so many terms; b is not 0.
 func quotient(a, b sum, limit int) (sum, outcome) {
-	if len(a) == 0 {
-		return nil, even
-	}
-	d := &division{by: b, most: height(a) + 1}
-	high, low := a.degrees(), b.degrees()
-	for v := range high {
-		if high[v] < low[v] {
-			return nil, none
-		}
-		d.room = d.room.times(power(v, high[v]-low[v]))
-		// A factor's numbers are below e to the sum of a's degrees, times a's greatest one (Gelfond).
-		d.most += high[v] + high[v]/2 + 1
-	}
-	if _, ok := d.ratio(a[len(a)-1], b[len(b)-1]); !ok {
-		return nil, none
-	}
-	how := d.run(a, limit)
-	if how != even {
+	d := &division{by: b, keep: true}
+	if how := d.run(a, limit); how != even {
 		return nil, how
 	}
 	return d.quo, even
 }
 
+// run ends, whatever the limit is: terms of the quotient descend, and their exponents are bounded.
 func (d *division) run(a sum, limit int) outcome {
-	for left := a; len(left) > 0 || len(d.next) > 0; {
+	if len(a) == 0 {
+		return even
+	}
+	if !d.begin(a) {
+		return none
+	}
+	for left := a; len(left) > 0 || len(d.fronts) > 0; {
 		var t term
 		t, left = d.highest(left)
 		if isZero(t.coef) {
@@ -85,17 +97,33 @@ func (d *division) run(a sum, limit int) outcome {
 		}
 		q, ok := d.ratio(t, d.by[0])
 		switch {
-		case !ok || len(d.quo) == doubtful && !mayDivide(d.by, a):
+		case !ok || d.size == doubtful && !mayDivide(d.by, a):
 			return none
-		case len(d.quo) == limit:
-			return long
+		case d.size == limit:
+			return open
 		}
-		d.quo = append(d.quo, q)
-		if len(d.by) > 1 {
-			heap.Push(&d.next, front{at: q.at.times(d.by[1].at), quo: len(d.quo) - 1, by: 1})
-		}
+		d.add(q)
 	}
 	return even
+}
+
+// begin tells whether degrees and last terms leave room for a quotient.
+func (d *division) begin(a sum) bool {
+	d.most, d.reach = height(a)+1, make([]int, len(d.by))
+	for j := 1; j < len(d.by); j++ {
+		d.idle = append(d.idle, j)
+	}
+	high, low := a.degrees(), d.by.degrees()
+	for v := range high {
+		if high[v] < low[v] {
+			return false
+		}
+		d.room = d.room.times(power(v, high[v]-low[v]))
+		// A factor's numbers are below e to the sum of a's degrees, times a's greatest one (Gelfond).
+		d.most += high[v] + high[v]/2 + 1
+	}
+	_, ok := d.ratio(a[len(a)-1], d.by[len(d.by)-1])
+	return ok
 }
 
 // highest tells the first term of what is left, its number being 0 if all that stands there cancels, and the terms of
@@ -105,30 +133,58 @@ func (d *division) highest(left sum) (term, sum) {
 	if len(left) > 0 {
 		t.at = left[0].at
 	}
-	if len(d.next) > 0 && d.next[0].at.compare(t.at) > 0 {
-		t.at = d.next[0].at
+	if len(d.fronts) > 0 && d.fronts[0].at.compare(t.at) > 0 {
+		t.at = d.fronts[0].at
 	}
 	if len(left) > 0 && left[0].at == t.at {
 		t.coef, left = left[0].coef, left[1:]
 	}
-	for len(d.next) > 0 && d.next[0].at == t.at {
-		n := d.next[0]
-		t.coef = minus(t.coef, times(d.quo[n.quo].coef, d.by[n.by].coef))
-		d.advance()
+	for len(d.fronts) > 0 && d.fronts[0].at == t.at {
+		t.coef = minus(t.coef, d.takeOut())
 	}
 	return t, left
 }
 
-// advance moves the first front on.
-func (d *division) advance() {
-	n := &d.next[0]
-	n.by++
-	if n.by == len(d.by) {
-		heap.Pop(&d.next)
+// takeOut tells the first front's number, and moves it on.
+func (d *division) takeOut() api.Int {
+	j := d.fronts[0].by
+	first := d.size - len(d.quo)
+	c := times(d.quo[d.reach[j]-first].coef, d.by[j].coef)
+	d.reach[j]++
+	if d.reach[j] < d.size {
+		d.fronts.replace(front{at: d.quo[d.reach[j]-first].at.times(d.by[j].at), by: j})
+		return c
+	}
+	d.idle = append(d.idle, j)
+	last := len(d.fronts) - 1
+	f := d.fronts[last]
+	if d.fronts = d.fronts[:last]; last > 0 {
+		d.fronts.replace(f)
+	}
+	return c
+}
+
+// add takes one more term of the quotient.
+func (d *division) add(q term) {
+	if !d.keep {
+		d.forget()
+	}
+	d.size++
+	d.quo = append(d.quo, q)
+	for _, j := range d.idle {
+		d.fronts.add(front{at: q.at.times(d.by[j].at), by: j})
+	}
+	d.idle = d.idle[:0]
+}
+
+// forget lets go, as soon as there is no room left, of the terms with which the divisor's last one has been taken out:
+// then all others have been, too.
+func (d *division) forget() {
+	if len(d.quo) < cap(d.quo) {
 		return
 	}
-	n.at = d.quo[n.quo].at.times(d.by[n.by].at)
-	heap.Fix(&d.next, 0)
+	needed := d.size - d.reach[len(d.by)-1]
+	d.quo = slices.Grow(slices.Clone(d.quo[len(d.quo)-needed:]), needed+doubtful)
 }
 
 // ratio tells t over u, and whether that may be a term of the quotient.
@@ -137,8 +193,8 @@ func (d *division) ratio(t, u term) (term, bool) {
 		return term{}, false
 	}
 	at := t.at.over(u.at)
-	q, left, _ := big.Divide(t.coef, u.coef)
-	return term{at: at, coef: q}, at.divides(d.room) && isZero(left) && big.Len(q) <= d.most
+	q, ok := over(t.coef, u.coef)
+	return term{at: at, coef: q}, ok && at.divides(d.room) && big.Len(q) <= d.most
 }
 
 // height tells the most bits that a number of s has.
@@ -150,21 +206,36 @@ func height(s sum) int {
 	return most
 }
 
-// divides tells whether b divides a; a quotient of more than MaxTerms terms is not written out, since mayDivide has
-// been asked.
+// divides tells whether b, which is not 0, divides a.
 func divides(b, a sum) bool {
-	_, how := quotient(a, b, api.MaxTerms)
-	return how != none
+	_, how := quotient(a, b, doubtful)
+	return how == even || how == open && endsEven(a, b)
 }
 
-// exactly tells a divided by b. If b does not divide a, luck was bad.
-func exactly(a, b sum) sum {
-	q, how := quotient(a, b, longest)
-	switch how {
-	case none:
-		panic(unlucky{})
-	case long:
-		panic(endless{})
+// endsEven tells whether b divides a, where the quotient is long. Spots may have told that it does not; that it does,
+// only a division tells that comes to its end: of what is left of b without its strands, since it is they that make
+// quotients of short sums endless. In one variable no quotient is.
+func endsEven(a, b sum) bool {
+	by := b
+	if !inOneVariable(a) {
+		term := single(b)
+		if _, how := quotient(sum{single(a)}, sum{term}, 1); how != even {
+			return false
+		}
+		left, ok := withoutStrands(b.over(term), a)
+		if !ok {
+			return false
+		}
+		by = left
 	}
-	return q
+	d := &division{by: by}
+	return d.run(a, math.MaxInt) == even
+}
+
+func inOneVariable(s sum) bool {
+	n := 0
+	for _, d := range s.degrees() {
+		n += min(d, 1)
+	}
+	return n <= 1
 }

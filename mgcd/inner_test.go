@@ -1,10 +1,12 @@
 package mgcd
 
 import (
+	"math"
 	"math/rand/v2"
 	"slices"
 	"testing"
 
+	"terrace/api"
 	"terrace/big"
 )
 
@@ -20,7 +22,7 @@ func randomMono(r *rand.Rand, most int) (m mono, d degrees) {
 func TestMono(t *testing.T) {
 	r := rand.New(rand.NewPCG(8, 0))
 	for range 3000 {
-		most := []int{1, 3, 1 << 10, 1<<14 - 1}[r.IntN(4)]
+		most := []int{1, 3, 1 << 10, highest - 1}[r.IntN(4)]
 		m, d := randomMono(r, most)
 		n, e := randomMono(r, most)
 		divides, order := true, 0
@@ -39,6 +41,9 @@ func TestMono(t *testing.T) {
 		if m.divides(n) != divides || m.compare(n) != order || !m.divides(m.times(n)) {
 			t.Fatalf("%v, %v: %t, %d", d, e, m.divides(n), m.compare(n))
 		}
+		if m.place() != vector(d) || m.place().mono() != m {
+			t.Fatalf("%v: %v", d, m.place())
+		}
 	}
 }
 
@@ -52,7 +57,7 @@ func thrown(f func()) (what any) {
 // Of sums of powers of nodes the law and the system of equations tell which nodes they are, and with what numbers.
 func TestLaws(t *testing.T) {
 	r := rand.New(rand.NewPCG(8, 9))
-	s := (&luck{}).next()
+	s := lucky().next()
 	for range 300 {
 		nodes, numbers := make([]uint64, 1+r.IntN(12)), []uint64{}
 		var want []int
@@ -102,7 +107,7 @@ func short(rows ...[]int64) sum {
 
 // What is thrown where a pseudo-remainder is a constant does not get out; modulo a prime that divides a lead, luck is bad.
 func TestSharedDegree(t *testing.T) {
-	s := (&luck{}).next()
+	s := lucky().next()
 	image := func(c ...int64) []uint64 {
 		var out []uint64
 		for _, n := range c {
@@ -128,9 +133,6 @@ func TestSharedDegree(t *testing.T) {
 	if what := thrown(func() { s.sharedDegrees(a, b) }); what != (unlucky{}) {
 		t.Errorf("a lead that is 0 throws %v", what)
 	}
-	if got := shared(a, b); !isNumber(got) {
-		t.Errorf("%v", got)
-	}
 }
 
 // Whatever is sought, by whatever variable, the divisor is the same.
@@ -138,27 +140,59 @@ func TestPlans(t *testing.T) {
 	g, p, q := short([]int64{3, 0, 1}, []int64{2, 5}, []int64{0, 1}), short([]int64{1, 1}, []int64{-4}), short([]int64{7}, []int64{1, 0, 2})
 	idle := short([]int64{-1, 1})
 	a, b := product(product(g, p), idle), product(product(g, q), product(idle, idle))
-	both := (&luck{}).next().sharedDegrees(a, b)
+	degrees := lucky(a, b).next().sharedDegrees(a, b)
 	want := positive(product(g, idle))
+	h := hunt{shortest}
 	for x := range 2 {
-		for _, plan := range []*plan{{a: a, b: b, x: x}, {a: b, b: a, x: x}, {a: a, b: b, x: x, rest: true}, {a: b, b: a, x: x, rest: true}} {
-			plan.prepare(both)
-			got := plan.divisor(&luck{})
-			if !slices.EqualFunc(got, want, func(t, u term) bool { return t.at == u.at && big.Cmp(t.coef, u.coef) == 0 }) {
-				t.Errorf("by %d, %t: %v", x, plan.rest, got)
+		for _, by := range []aim{byBoth, byOne, leftOf} {
+			for _, p := range []plan{{a: a, b: b, by: by, x: x}, {a: b, b: a, by: by, x: x}} {
+				got := h.follow(&p, lucky(a, b), degrees)
+				if !isUnit(got.den) || positive(got.num).compare(want) != 0 {
+					t.Errorf("by %d, %d: %v", x, by, got)
+				}
 			}
 		}
 	}
-	poor := planned(a, b, both)
-	spot := (&luck{}).next()
+	list := plans(a, b, degrees)
+	if len(list) != 5 || !slices.IsSortedFunc(list, func(p, q *plan) int { return p.cost(degrees) - q.cost(degrees) }) {
+		t.Errorf("%d plans", len(list))
+	}
+	spot := lucky().next()
 	spot.at[0], spot.at[1] = 0, 0
-	if what := thrown(func() { poor.support(spot) }); what != (unlucky{}) {
+	h.prepare(list[0], degrees)
+	if what := thrown(func() { h.support(list[0], spot) }); what != (unlucky{}) {
 		t.Errorf("a spot where all is alike throws %v", what)
 	}
-	wrong := both
+	wrong := degrees
 	wrong[0]++
-	if what := thrown(func() { planned(a, b, wrong).divisor(&luck{}) }); what != (unlucky{}) && what != (coprime{}) {
-		t.Errorf("degrees that are too high throw %v", what)
+	for _, p := range plans(a, b, wrong) {
+		if what := thrown(func() { h.follow(p, lucky(), wrong) }); what != (unlucky{}) && what != (coprime{}) {
+			t.Errorf("degrees that are too high throw %v", what)
+		}
+	}
+}
+
+// Where a number of what is sought is 0 modulo the prime that tells the support, the next prime shows it.
+func TestMissingNumber(t *testing.T) {
+	l := lucky()
+	s := l.next()
+	g, p, q := short([]int64{7, 1}, []int64{1}), short([]int64{3, 1}, []int64{1}), short([]int64{4, 1}, []int64{2})
+	g[0].coef = s.Prime()
+	a, b := product(g, p), product(g, q)
+	plan := &plan{a: a, b: b, by: byBoth, x: 0}
+	h := hunt{shortest}
+	h.prepare(plan, degrees{1, 1})
+	where := h.support(plan, s)
+	for range 5 {
+		s = l.next()
+		c := plan.courses(s, set(plan.others...), set(plan.others...))
+		numbers := plan.coefficients(s, where, c)
+		if what := thrown(func() { plan.check(s, where, numbers, c) }); what != (unlucky{}) {
+			t.Errorf("a number that is missing throws %v", what)
+		}
+	}
+	if got := h.shared(a, b); !isUnit(got.den) || positive(got.num).compare(positive(g)) != 0 {
+		t.Errorf("%v", got)
 	}
 }
 
@@ -167,13 +201,11 @@ func TestMayDivide(t *testing.T) {
 	a, b := short([]int64{1, 1}), short([]int64{1}, []int64{1})
 	both := product(a, b)
 	six, four := constant(big.From(6)), constant(big.From(4))
-	prime := constant((&luck{}).next().Prime()) // by which all is 0 at the first spot
 	for i, c := range []struct {
 		b, a sum
 		want bool
 	}{
 		{a, both, true}, {b, both, true}, {both, both, true}, {product(a, a), both, false}, {product(b, b), both, false}, {both, a, false}, {product(four, a), product(six, both), false}, {product(constant(big.From(-2)), a), product(six, both), true}, {four, six, false}, {a, product(b, b), false},
-		{product(prime, a), product(prime, both), true}, {product(prime, a), product(prime, b), false}, {product(prime, a), both, false},
 	} {
 		if got := mayDivide(c.b, c.a); got != c.want {
 			t.Errorf("%d: %t", i, got)
@@ -181,36 +213,104 @@ func TestMayDivide(t *testing.T) {
 	}
 }
 
-// A quotient stops at the length that is asked for; what is longer than all that is worked with is thrown.
-func TestQuotientLimit(t *testing.T) {
-	line := func(n int) sum { return short(slices.Repeat([]int64{1}, n)) }
-	long1 := sum{{at: power(0, 1000), coef: big.From(1)}, {coef: big.From(-1)}}
-	by := sum{{at: power(0, 1), coef: big.From(1)}, {coef: big.From(-1)}}
-	if q, how := quotient(long1, by, 1000); how != even || len(q) != 1000 {
-		t.Errorf("%d terms, %d", len(q), how)
-	}
-	if q, how := quotient(long1, by, 999); how != long || q != nil {
-		t.Errorf("%d terms, %d", len(q), how)
-	}
-	if q, how := quotient(product(line(30), line(40)), line(30), 40); how != even || len(q) != 40 {
-		t.Errorf("%d terms, %d", len(q), how)
-	}
-	plane := product(long1, sum{{at: power(1, 1000), coef: big.From(1)}, {coef: big.From(-1)}})
-	if what := thrown(func() { exactly(plane, short([]int64{1, -1}, []int64{-1, 1})) }); what != (endless{}) {
-		t.Errorf("too long throws %v", what)
-	}
-	if what := thrown(func() { product(line(5000), line(5000)) }); what != (endless{}) {
-		t.Errorf("too wide throws %v", what)
-	}
-	if what := thrown(func() { exactly(plane, short([]int64{2, 1})) }); what != (unlucky{}) {
-		t.Errorf("no quotient throws %v", what)
+// Luck hangs on each part of all that is asked about, and is the same each time.
+func TestLucky(t *testing.T) {
+	a, b := short([]int64{1, 1}), short([]int64{1}, []int64{1})
+	seen := make(map[uint64]int)
+	for i, list := range [][]sum{{}, {a}, {b}, {a, b}, {b, a}, {product(a, b)}, {short([]int64{1, 2})}, {short([]int64{2, 1})}, {constant(api.Int{Mag: api.Nat{1, 1}})}} {
+		l, again := lucky(list...), lucky(list...)
+		if l.state != again.state || l.next().at != again.next().at {
+			t.Errorf("%d is another one the second time", i)
+		}
+		if seen[l.state]++; seen[l.state] > 1 {
+			t.Errorf("%d is like another one", i)
+		}
 	}
 }
 
-// A mixture has no divisor that not all have, and no term but 1 divides it.
+func line1(n int) sum { return short(slices.Repeat([]int64{1}, n)) }
+
+// less1 makes the n-th power of v, less 1.
+func less1(v, n int) sum {
+	return sum{{at: power(v, n), coef: big.From(1)}, {coef: big.From(-1)}}
+}
+
+// A quotient stops at the length that is asked for; a hunt throws what is longer than all that it works with.
+func TestQuotientLimit(t *testing.T) {
+	if q, how := quotient(less1(0, 1000), less1(0, 1), 1000); how != even || len(q) != 1000 {
+		t.Errorf("%d terms, %d", len(q), how)
+	}
+	if q, how := quotient(less1(0, 1000), less1(0, 1), 999); how != open || q != nil {
+		t.Errorf("%d terms, %d", len(q), how)
+	}
+	if q, how := quotient(product(line1(30), line1(40)), line1(30), 40); how != even || len(q) != 40 {
+		t.Errorf("%d terms, %d", len(q), how)
+	}
+	h := hunt{shortest}
+	plane := ratio{product(less1(0, 100), less1(1, 100)), product(less1(0, 1), less1(1, 1))}
+	if what := thrown(func() { h.written(plane) }); what != (endless{}) {
+		t.Errorf("too long throws %v", what)
+	}
+	if got := (hunt{longest}).written(plane); len(got) != 10000 {
+		t.Errorf("%d terms", len(got))
+	}
+	for _, c := range [][2]sum{{line1(5000), line1(5000)}, {less1(3, highest), less1(3, 1)}} {
+		if what := thrown(func() { h.product(c[0], c[1]) }); what != (endless{}) {
+			t.Errorf("a product without room throws %v", what)
+		}
+	}
+	if what := thrown(func() { h.stretched(whole(less1(0, 100)), degrees{highest/100 + 1}) }); what != (endless{}) {
+		t.Errorf("exponents without room throw %v", what)
+	}
+	r := rand.New(rand.NewPCG(8, 2))
+	g := randomSum(r, 3, 9, 4, 9)
+	list := []sum{product(g, randomSum(r, 3, 9, 4, 9)), product(g, randomSum(r, 3, 9, 4, 9))}
+	if g, ok := met(func() ratio { return hunt{1}.common(list) }); ok {
+		t.Errorf("a hunt for less than there is meets %v", g)
+	}
+	if d, ok := met(func() ratio { return hunt{shortest}.common(list) }); !ok || !divides(g, d.num) {
+		t.Errorf("%t, %v", ok, d)
+	}
+}
+
+// A division that keeps nothing ends as one that keeps all.
+func TestKeep(t *testing.T) {
+	r := rand.New(rand.NewPCG(8, 3))
+	for range 300 {
+		a, b := randomSum(r, 2, 1+r.IntN(60), 12, 9), randomSum(r, 2, 1+r.IntN(5), 9, 3)
+		if len(b) == 0 {
+			continue
+		}
+		for _, s := range []sum{a, product(a, b), append(product(a, b), term{coef: big.From(7)})} {
+			s = gathered(slices.Clone(s))
+			_, want := quotient(s, b, math.MaxInt)
+			if got := (&division{by: b}).run(s, math.MaxInt); got != want {
+				t.Fatalf("%v, %v: %d, want %d", s, b, got, want)
+			}
+		}
+	}
+	d := &division{by: less1(0, 1)}
+	if how := d.run(product(less1(0, 1000), less1(1, 10)), math.MaxInt); how != even || d.size != 2000 || cap(d.quo) > 4*doubtful {
+		t.Errorf("%d: %d terms, %d held", how, d.size, cap(d.quo))
+	}
+}
+
+func randomSum(r *rand.Rand, vars, terms, most int, size int64) sum {
+	var s sum
+	for range terms {
+		var m mono
+		for v := range vars {
+			m = m.times(power(v, r.IntN(most+1)))
+		}
+		s = append(s, term{at: m, coef: big.From(r.Int64N(2*size+1) - size)})
+	}
+	return gathered(s)
+}
+
+// A mixture has no divisor that not all have, and no term but 1 divides it; sums that cancel are not mixed.
 func TestMixture(t *testing.T) {
 	a, b, c := short([]int64{1, 1}), short([]int64{2, 1}), short([]int64{3, 1})
-	m := (&luck{}).mixture([]sum{product(a, b), product(b, c), product(c, a)})
+	m := lucky().mixture([]sum{product(a, b), product(b, c), product(c, a)})
 	if d := single(m); !isOne(d.coef) || d.at != (mono{}) {
 		t.Errorf("%v", d)
 	}
@@ -218,5 +318,29 @@ func TestMixture(t *testing.T) {
 		if divides(s, m) {
 			t.Errorf("%d divides", i)
 		}
+	}
+}
+
+// By pseudo-remainders the same divisor is found as by hunts, however many there are.
+func TestPlainly(t *testing.T) {
+	for seed := range uint64(100) {
+		r := rand.New(rand.NewPCG(seed, 88))
+		vars := 1 + r.IntN(4)
+		g := randomSum(r, vars, 1+r.IntN(4), 2, 5)
+		var list []sum
+		for range 1 + r.IntN(3) {
+			list = append(list, product(g, randomSum(r, vars, r.IntN(5), 2, 5)))
+		}
+		want, ok := met(func() ratio { return hunt{shortest}.common(list) })
+		if got := plainly(list); !ok || !isUnit(want.den) || got.compare(positive(want.num)) != 0 {
+			t.Fatalf("%v: %v, want %v", list, got, want)
+		}
+	}
+	if got := plainly(nil); len(got) != 0 {
+		t.Errorf("of nothing: %v", got)
+	}
+	far := sum{{at: power(7, 1024).times(power(0, 1024)), coef: big.From(-6)}, {at: power(7, 1), coef: big.From(4)}}
+	if got, want := plainly([]sum{far, nil, product(far, less1(3, 2))}), positive(far); got.compare(want) != 0 {
+		t.Errorf("%v", got)
 	}
 }

@@ -9,10 +9,11 @@ import "cmp"
 type mono struct{ high, low uint64 }
 
 const (
-	width  = 16 // bits of an exponent
-	inWord = 4  // exponents in a word
-	full   = 1<<width - 1
-	spare  = 1<<15 | 1<<31 | 1<<47 | 1<<63 // the uppermost bits
+	width   = 16 // bits of an exponent
+	inWord  = 4  // exponents in a word
+	full    = 1<<width - 1
+	highest = 1 << 14                       // exponent of a sum, so that those of two together leave a bit
+	spare   = 1<<15 | 1<<31 | 1<<47 | 1<<63 // the uppermost bits
 )
 
 // power tells v to the n.

@@ -2,21 +2,30 @@ package mgcd
 
 import (
 	"cmp"
+	"math/bits"
 	"slices"
 
 	"terrace/api"
 	"terrace/residue"
 )
 
+// aim is what a plan seeks, and by what its lead is known.
+type aim int
+
+const (
+	byBoth aim = iota // the divisor: its lead divides the greatest common divisor of a's lead and b's
+	byOne             // the divisor: its lead divides a's
+	leftOf            // what is left of a when the divisor is taken out: its lead divides a's
+)
+
 // plan is how a common divisor of a and b is looked for: modulo primes, as a polynomial in x that goes through what
-// shows where the other variables are numbers (Zippel). What is sought is the divisor, or, where that is the lesser
-// part, what is left of a when the divisor is taken out; without what of it x does not stand in, but with a lead, by
-// x, that is known.
+// shows where the other variables are numbers (Zippel). What is sought is without what of it x does not stand in, but
+// with a lead, by x, that is known.
 type plan struct {
 	a, b     sum
+	by       aim
 	x        int
-	degree   int  // the divisor's, in x
-	rest     bool // whether what is left of a is sought
+	degree   int // the divisor's, in x
 	lead     sum
 	others   []int // the other variables
 	bounds   []int // of the degrees in them of what is sought
@@ -27,23 +36,31 @@ type plan struct {
 // support is, for each power of x that is below the top, the products of other variables that stand with it.
 type support [][]mono
 
-// planned takes, of all variables and both things that may be sought of a and b, those that let the least degrees be
-// gone through; shared are the divisor's degrees.
-func planned(a, b sum, shared degrees) *plan {
-	var best *plan
-	least := 0
-	for x := range shared {
-		if shared[x] == 0 {
+// plans tells one for each thing that may be sought, by the variable that lets the least degrees be gone through, and
+// the one first that has the least of all; shared are the divisor's degrees. Which of them leads to short sums is not
+// known beforehand.
+func plans(a, b sum, shared degrees) []*plan {
+	var list []*plan
+	for _, p := range []plan{{a: a, b: b, by: byBoth}, {a: a, b: b, by: byOne}, {a: b, b: a, by: byOne}, {a: a, b: b, by: leftOf}, {a: b, b: a, by: leftOf}} {
+		p.chooseVariable(shared)
+		list = append(list, &p)
+	}
+	slices.SortStableFunc(list, func(p, q *plan) int { return cmp.Compare(p.cost(shared), q.cost(shared)) })
+	return list
+}
+
+func (p *plan) chooseVariable(shared degrees) {
+	best, least := 0, -1
+	for v, d := range shared {
+		if d == 0 {
 			continue
 		}
-		for _, p := range []*plan{{a: a, b: b, x: x}, {a: a, b: b, x: x, rest: true}, {a: b, b: a, x: x, rest: true}} {
-			if n := p.cost(shared); best == nil || n < least {
-				best, least = p, n
-			}
+		p.x = v
+		if n := p.cost(shared); least < 0 || n < least {
+			best, least = v, n
 		}
 	}
-	best.prepare(shared)
-	return best
+	p.x = best
 }
 
 // cost tells the sum of the degrees to go through, at the most.
@@ -53,25 +70,28 @@ func (p *plan) cost(shared degrees) int {
 	for v := range shared {
 		switch {
 		case v == p.x:
-		case p.rest:
-			n += whole[v] - shared[v] + lead[v]
-		default:
+		case p.by == byBoth:
 			n += shared[v] + min(lead[v], other[v])
+		case p.by == byOne:
+			n += shared[v] + lead[v]
+		default:
+			n += whole[v] - shared[v] + lead[v]
 		}
 	}
 	return n
 }
 
 // prepare finds the lead: one that the sought polynomial's own lead divides.
-func (p *plan) prepare(shared degrees) {
+func (h hunt) prepare(p *plan, shared degrees) {
 	sought, high := shared, p.a.degrees()
 	p.lead = p.a.top(p.x)
-	if p.rest {
+	switch p.by {
+	case byBoth:
+		p.lead = h.written(h.common([]sum{p.lead, p.b.top(p.x)}))
+	case leftOf:
 		for v := range sought {
 			sought[v] = high[v] - shared[v]
 		}
-	} else {
-		p.lead = common([]sum{p.lead, p.b.top(p.x)})
 	}
 	p.degree, p.top, p.inA, p.inB = shared[p.x], sought[p.x], high[p.x], p.b.degrees()[p.x]
 	lead := p.lead.degrees()
@@ -80,6 +100,7 @@ func (p *plan) prepare(shared degrees) {
 			p.others = append(p.others, v)
 		}
 	}
+	sought.fit()
 	slices.SortStableFunc(p.others, func(v, w int) int { return cmp.Compare(sought[w], sought[v]) })
 	for _, v := range p.others {
 		p.bounds = append(p.bounds, sought[v])
@@ -87,15 +108,55 @@ func (p *plan) prepare(shared degrees) {
 }
 
 // sought tells what is sought, its numbers by as many primes as change them.
-func (p *plan) sought(l *luck) sum {
+func (h hunt) sought(p *plan, l *luck) sum {
 	s := l.next()
-	where := p.support(s)
+	where := h.support(p, s)
 	known := residue.Nothing(where.count())
 	all := set(p.others...)
-	for known.Take(s.Field, p.coefficients(s, where, p.courses(s, all, all))) {
+	for range p.primes() {
+		c := p.courses(s, all, all)
+		numbers := p.coefficients(s, where, c)
+		p.check(s, where, numbers, c)
+		if !known.Take(s.Field, numbers) {
+			return p.joined(where, known.Numbers)
+		}
 		s = l.next()
 	}
-	return p.joined(where, known.Numbers)
+	panic(unlucky{})
+}
+
+// primes tells how many are enough for the numbers of a factor of a times the lead (Gelfond), and one more.
+func (p *plan) primes() int {
+	most := height(p.a) + height(p.lead) + bits.Len(uint(len(p.lead)))
+	high, lead := p.a.degrees(), p.lead.degrees()
+	for v := range high {
+		most += (high[v]+lead[v])*3/2 + 1
+	}
+	return most/60 + 2
+}
+
+// check holds the numbers against the next point: where a number is 0 modulo the prime that told the support, it is
+// missing there, and no number is right.
+func (p *plan) check(s *spot, where support, numbers []uint64, c *courses) {
+	n := where.longest() + 1
+	for e, seen := range p.sight(s, c) {
+		for i, m := range where[e] {
+			seen = s.Minus(seen, s.Times(numbers[i], s.Power(s.worth(m), uint64(n))))
+		}
+		if seen != 0 {
+			panic(unlucky{})
+		}
+		numbers = numbers[len(where[e]):]
+	}
+}
+
+// longest tells how many products stand with one power of x at the most.
+func (w support) longest() int {
+	n := 0
+	for _, l := range w {
+		n = max(n, len(l))
+	}
+	return n
 }
 
 func (w support) count() int {
@@ -122,14 +183,14 @@ func (p *plan) joined(where support, numbers []api.Int) sum {
 }
 
 // support tells what stands where, by one variable more each time: the others stay at the spot.
-func (p *plan) support(s *spot) support {
+func (h hunt) support(p *plan, s *spot) support {
 	where := make(support, p.top)
 	for e := range where {
 		where[e] = []mono{{}}
 	}
 	for k := range p.others {
 		where = p.widened(s, where, k)
-		if where.count() > longest {
+		if where.count() > h.limit {
 			panic(endless{})
 		}
 	}
@@ -178,12 +239,8 @@ func (p *plan) laws(s *spot, where support, k int) []law {
 // coefficients tells the numbers of what is sought, where they stand, by as many steps of the courses as the longest
 // list has products.
 func (p *plan) coefficients(s *spot, where support, c *courses) []uint64 {
-	steps := 0
-	for _, l := range where {
-		steps = max(steps, len(l))
-	}
 	sums := make([][]uint64, len(where)) // of each power of x, step by step
-	for range steps {
+	for range where.longest() {
 		for e, n := range p.sight(s, c) {
 			sums[e] = append(sums[e], n)
 		}
@@ -211,7 +268,7 @@ func (p *plan) sight(s *spot, c *courses) []uint64 {
 		panic(unlucky{})
 	}
 	inverse := s.Inverse(g[p.degree])
-	if p.rest {
+	if p.by == leftOf {
 		return s.ratio(a, s.scaled(g, inverse))[:p.top]
 	}
 	lead := c.lead.image(s.field, 0)

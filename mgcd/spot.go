@@ -2,7 +2,6 @@ package mgcd
 
 import (
 	"terrace/api"
-	"terrace/big"
 	"terrace/residue"
 )
 
@@ -15,10 +14,44 @@ type spot struct {
 	at [api.MaxVars]uint64
 }
 
-// luck tells spots, one after the other, scattered so that next to none is a root of a polynomial that is not 0.
+// luck tells spots, one after the other, scattered so that next to none is a root of a polynomial that is not 0. What
+// they do not show is never taken for granted: bad luck costs time alone.
 type luck struct {
 	stock residue.Primes
 	state uint64
+}
+
+// lucky tells the luck of some sums. It hangs on each bit of them, so that nobody can choose them by the primes and the
+// points that they meet.
+func lucky(list ...sum) *luck {
+	l := &luck{}
+	for range 2 { // what is stirred in last would else be all that counts
+		for _, s := range list {
+			for _, t := range s {
+				l.stir(t.at.high)
+				l.stir(t.at.low)
+				for _, limb := range t.coef.Mag {
+					l.stir(limb)
+				}
+			}
+		}
+	}
+	l.stock = residue.Below(1<<61 + l.number()>>3)
+	return l
+}
+
+func (l *luck) stir(n uint64) {
+	l.state ^= n
+	l.state = l.number()
+}
+
+// number mixes the bits of one that grows by even steps (Steele, Lea, Flood).
+func (l *luck) number() uint64 {
+	l.state += 0x9e3779b97f4a7c15
+	n := l.state
+	n = (n ^ n>>30) * 0xbf58476d1ce4e5b9
+	n = (n ^ n>>27) * 0x94d049bb133111eb
+	return n ^ n>>31
 }
 
 func (l *luck) next() *spot {
@@ -30,15 +63,6 @@ func (l *luck) next() *spot {
 		}
 	}
 	return s
-}
-
-// number mixes the bits of one that grows by even steps (Steele, Lea, Flood).
-func (l *luck) number() uint64 {
-	l.state += 0x9e3779b97f4a7c15
-	n := l.state
-	n = (n ^ n>>30) * 0xbf58476d1ce4e5b9
-	n = (n ^ n>>27) * 0x94d049bb133111eb
-	return n ^ n>>31
 }
 
 // worth tells m's value.
@@ -80,15 +104,13 @@ func (s *spot) sharedDegrees(a, b sum) degrees {
 	return out
 }
 
-// mayDivide tells false only if b does not divide a, and true, if it does; if it does not, true is next to impossible.
-// For if it divides in each variable alone, the others being at a spot that stands for all, each irreducible factor of
-// b is in a, too, and as often.
+// mayDivide tells false only if b does not divide a. That it tells true proves nothing.
 func mayDivide(b, a sum) bool {
-	if _, left, _ := big.Divide(content(a), content(b)); !isZero(left) {
+	if _, ok := over(content(a), content(b)); !ok {
 		return false
 	}
 	high, low := a.degrees(), b.degrees()
-	l := &luck{state: 1}
+	l := lucky(b, a)
 	for range 2 {
 		s := l.next()
 		for v := range low {

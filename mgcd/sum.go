@@ -61,6 +61,11 @@ func constant(c api.Int) sum {
 	return sum{{coef: c}}
 }
 
+// isUnit tells whether s is 1.
+func isUnit(s sum) bool {
+	return len(s) == 1 && isNumber(s) && isOne(s[0].coef)
+}
+
 // isNumber tells whether no variable stands in s, which is not 0.
 func isNumber(s sum) bool {
 	return s[0].at == mono{}
@@ -107,8 +112,11 @@ func (s sum) top(v int) sum {
 }
 
 func product(a, b sum) sum {
-	if len(a)*len(b) > widest {
-		panic(endless{})
+	switch {
+	case isUnit(a):
+		return b
+	case isUnit(b):
+		return a
 	}
 	out := make(sum, 0, len(a)*len(b))
 	for _, t := range a {
@@ -169,7 +177,7 @@ func lesser(m, n mono) mono {
 func (s sum) over(d term) sum {
 	out := make(sum, len(s))
 	for i, t := range s {
-		q, _, _ := big.Divide(t.coef, d.coef)
+		q, _ := over(t.coef, d.coef)
 		out[i] = term{at: t.at.over(d.at), coef: q}
 	}
 	return out
@@ -187,8 +195,13 @@ func isZero(a api.Int) bool {
 	return len(a.Mag) == 0
 }
 
+// isSign tells whether a is 1 or -1: most numbers are, and no new ones have to be made of them.
+func isSign(a api.Int) bool {
+	return len(a.Mag) == 1 && a.Mag[0] == 1
+}
+
 func isOne(a api.Int) bool {
-	return !a.Neg && len(a.Mag) == 1 && a.Mag[0] == 1
+	return !a.Neg && isSign(a)
 }
 
 func plus(a, b api.Int) api.Int {
@@ -202,6 +215,21 @@ func minus(a, b api.Int) api.Int {
 }
 
 func times(a, b api.Int) api.Int {
+	switch {
+	case isSign(a):
+		return api.Int{Neg: a.Neg != b.Neg && !isZero(b), Mag: b.Mag}
+	case isSign(b):
+		return api.Int{Neg: a.Neg != b.Neg && !isZero(a), Mag: a.Mag}
+	}
 	c, _ := big.Mul(a, b)
 	return c
+}
+
+// over tells a divided by b, which is not 0, and whether that is a whole number.
+func over(a, b api.Int) (api.Int, bool) {
+	if isSign(b) {
+		return times(a, b), true
+	}
+	q, left, _ := big.Divide(a, b)
+	return q, isZero(left)
 }

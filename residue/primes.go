@@ -20,6 +20,11 @@ type Primes struct {
 	last uint64
 }
 
+// Below tells the primes that are not above n, which is below 2^62, far above the witnesses.
+func Below(n uint64) Primes {
+	return Primes{told: len(belowTop), last: n + n%2 + 1}
+}
+
 // Next tells the next prime's field.
 func (s *Primes) Next() Field {
 	if s.told < len(belowTop) {

@@ -27,6 +27,26 @@ func TestPrimes(t *testing.T) {
 	}
 }
 
+// From any number on the primes are told that are not above it, none left out.
+func TestPrimesBelow(t *testing.T) {
+	r := rand.New(rand.NewPCG(3, 4))
+	for _, n := range []uint64{top - 1, top - 57, top - 58, top - 59, 1 << 61, 1<<61 - 1, 1<<61 + r.Uint64N(1<<61), 1<<61 + r.Uint64N(1<<61)} {
+		stock := Below(n)
+		for range 5 {
+			p := stock.Next().Prime().Mag[0]
+			for ; n > p; n-- {
+				if new(ref.Int).SetUint64(n).ProbablyPrime(10) {
+					t.Fatalf("%d was left out", n)
+				}
+			}
+			if n != p || !new(ref.Int).SetUint64(p).ProbablyPrime(20) {
+				t.Fatalf("%d is no prime, or above %d", p, n)
+			}
+			n--
+		}
+	}
+}
+
 // No product of two primes passes.
 func TestNoPrimes(t *testing.T) {
 	for _, n := range []uint64{41 * 41, 3215031751, 3474749660383, 341550071728321, 3825123056546413051, 4611686014132420609, 2147483647 * 2147483629} {
