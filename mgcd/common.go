@@ -167,6 +167,9 @@ func (h hunt) attempt(l *luck, a, b sum) (g ratio, ok bool) {
 			return g, true
 		}
 	}
+	if g, ok := h.unstranded(a, b); ok {
+		return h.shortened(g), true
+	}
 	panic(endless{})
 }
 

@@ -216,19 +216,26 @@ func divides(b, a sum) bool {
 // only a division tells that comes to its end: of what is left of b without its strands, since it is they that make
 // quotients of short sums endless. In one variable no quotient is.
 func endsEven(a, b sum) bool {
-	by := b
-	if !inOneVariable(a) {
-		term := single(b)
-		if _, how := quotient(sum{single(a)}, sum{term}, 1); how != even {
-			return false
-		}
-		left, ok := withoutStrands(b.over(term), a)
-		if !ok {
-			return false
-		}
-		by = left
+	if inOneVariable(a) {
+		return runsEven(a, b)
 	}
-	d := &division{by: by}
+	term := single(b)
+	if _, how := quotient(sum{single(a)}, sum{term}, 1); how != even {
+		return false
+	}
+	left, ok := withoutStrands(b.over(term), a)
+	if !ok {
+		return false
+	}
+	if p, q, ok := parted(left); ok {
+		return divides(p, a) && divides(q, a)
+	}
+	return runsEven(a, left)
+}
+
+// runsEven tells whether b divides a, however long that takes.
+func runsEven(a, b sum) bool {
+	d := &division{by: b}
 	return d.run(a, math.MaxInt) == even
 }
 
@@ -238,4 +245,22 @@ func inOneVariable(s sum) bool {
 		n += min(d, 1)
 	}
 	return n <= 1
+}
+
+// parted tells two factors of s, which have nothing in common, since a variable stands in all factors of the second
+// one and not in the first: their quotients are shorter than the one by s.
+func parted(s sum) (p, q sum, ok bool) {
+	for v, d := range s.degrees() {
+		if d == 0 {
+			continue
+		}
+		c := common(s.parts(set(v))).shortened(len(s))
+		if !isUnit(c.den) || isNumber(c.num) {
+			continue
+		}
+		if rest, how := quotient(s, c.num, len(s)); how == even {
+			return c.num, rest, true
+		}
+	}
+	return nil, nil, false
 }

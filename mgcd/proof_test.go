@@ -171,6 +171,13 @@ func TestGcdFarTooLong(t *testing.T) {
 	a, b = dense2(6, 6)
 	a, b = mul(spread(a, 8), less1(8, 6, 1023), less1(8, 7, 1)), mul(spread(b, 8), less1(8, 6, 1), less1(8, 7, 1024))
 	refused(t, "all", api.ErrMPolyForm)(mgcd.Gcd(a, b))
+	// All three are longer than what is searched for.
+	a, b = dense2(4, 21)
+	a, b = spread(a, 8), spread(b, 8)
+	for v := 3; v < 5; v++ {
+		a, b = mul(a, less1(8, v, 1023), less1(8, v+2, 1)), mul(b, less1(8, v, 1), less1(8, v+2, 1022))
+	}
+	refused(t, "all, and far", api.ErrMPolyForm)(mgcd.Gcd(a, b))
 }
 
 // lines makes the product of binomials, in x, y and z, whose exponents lie in different directions.
@@ -196,6 +203,17 @@ func TestLines(t *testing.T) {
 	holdGcd(t, "lines and more", mul(a, p, p), mul(b, q, p), positive(mul(b, p)))
 }
 
+// P8.1, P8.2: a divisor that is longer without the lines in it, and a quotient without end for their sake.
+func TestLinesWithin(t *testing.T) {
+	b, a := parse(5, "w(x^2 - 1)(y^2 - 1)(z^2 - 1) + t(x^3 - 1)(y^3 - 1)(z^3 - 1)"), parse(5, "w(x + 1)(y + 1)(z + 1) + t(x^2 + x + 1)(y^2 + y + 1)(z^2 + z + 1)")
+	for v := range 3 {
+		a = mul(a, less1(5, v, 1000))
+	}
+	refused(t, "long", api.ErrMPolyForm)(mgcd.Exact(a, b))
+	refused(t, "a line too often", api.ErrMPolyRest)(mgcd.Exact(a, mul(b, less1(5, 0, 1))))
+	holdGcd(t, "within", mul(a, parse(5, "w + 1")), mul(b, parse(5, "t + x + 3")), positive(b))
+}
+
 // differ makes (x + y)^k - (z + w)^k.
 func differ(k int) api.MPoly {
 	p, q := number(4, 1), number(4, 1)
@@ -214,6 +232,19 @@ func TestDiffer(t *testing.T) {
 	refused(t, "long, but for a term", api.ErrMPolyRest)(mgcd.Exact(add(differ(60), lone(4, 2, 1)), b))
 	holdGcd(t, "what is left is long", differ(60), differ(49), positive(b))
 	holdGcd(t, "all is", differ(60), differ(45), positive(differ(15)))
+	two := func(k int) api.MPoly { return mul(spread(differ(k), 8), behind(differ(k))) }
+	refused(t, "two", api.ErrMPolyForm)(mgcd.Exact(two(24), two(1)))
+	refused(t, "two of which one does not divide", api.ErrMPolyRest)(mgcd.Exact(mul(spread(differ(24), 8), behind(differ(23))), two(2)))
+	holdGcd(t, "two", two(24), two(23), positive(two(1)))
+}
+
+// behind tells p, of 4 variables, in the last ones of 8.
+func behind(p api.MPoly) api.MPoly {
+	q := api.MPoly{Vars: 8}
+	for _, t := range p.Terms {
+		q.Terms = append(q.Terms, api.Term{Exps: append(make([]int, 4), t.Exps...), Coef: t.Coef})
+	}
+	return q
 }
 
 // cyclotomic tells the coefficients, the lowest first, of the polynomial whose roots are all of order d.

@@ -185,8 +185,21 @@ func (s sum) without(strand sum, u vector) sum {
 	return gathered(out)
 }
 
+// along tells a sum of powers of variable 0 with u for each, lifted till no exponent is below 0.
+func (s sum) along(u vector) sum {
+	var start vector
+	for v := range start {
+		start[v] = max(0, -s[0].at.exp(0)*u[v])
+	}
+	var out sum
+	for _, t := range s {
+		out = append(out, term{at: start.moved(t.at.exp(0), u).mono(), coef: t.coef})
+	}
+	return gathered(out)
+}
+
 // withoutStrands tells what is left of b, which no term but 1 divides, without its strands, and whether all of them
-// divide a. A strand without which b would be longer is left in.
+// divide a. A strand without which b would be longer than a, too, is left in: it is not by it that a is short.
 func withoutStrands(b, a sum) (sum, bool) {
 	for _, u := range b.directions() {
 		strand := b.strand(u)
@@ -196,9 +209,46 @@ func withoutStrands(b, a sum) (sum, bool) {
 		if slices.ContainsFunc(distinct(a.lines(u)), func(s sum) bool { return !divides(strand, s) }) {
 			return nil, false
 		}
-		if left := b.without(strand, u); len(left) <= len(b) {
+		if left := b.without(strand, u); len(left) <= max(len(a), len(b)) {
 			b = left
 		}
 	}
 	return b, true
+}
+
+// unstranded tells the greatest common divisor of a and b, which no term but 1 divides, if both have strands in one
+// direction without which one of them, b say, is not longer: it is that of a and what is left of b, times that of
+// their strands, since those have nothing in common with what is left.
+func (h hunt) unstranded(a, b sum) (ratio, bool) {
+	for _, u := range a.directions() {
+		inA, inB := a.strand(u), b.strand(u)
+		if isNumber(inA) || isNumber(inB) {
+			continue
+		}
+		left := b.without(inB, u)
+		if len(left) > len(b) {
+			a, b, inA, inB = b, a, inB, inA
+			left = b.without(inB, u)
+		}
+		if len(left) > len(b) {
+			continue
+		}
+		strands, rest := shortRatio(inA, inB), h.common([]sum{a, left})
+		return ratio{h.product(rest.num, strands.num.along(u)), h.product(rest.den, strands.den.along(u))}, true
+	}
+	return ratio{}, false
+}
+
+// shortRatio tells the greatest common divisor of two sums of powers of variable 0, as short as may be: 1 + x + .. + x^99
+// is x^100 - 1 over x - 1.
+func shortRatio(a, b sum) ratio {
+	g := common([]sum{a, b}).shortened(math.MaxInt)
+	best := g
+	for _, s := range []sum{a, b} {
+		left, _ := quotient(s, g.num, math.MaxInt)
+		if len(s)+len(left) < len(best.num)+len(best.den) {
+			best = ratio{s, left}
+		}
+	}
+	return best
 }

@@ -63,6 +63,69 @@ func TestStrandLeftIn(t *testing.T) {
 	}
 }
 
+// Laid along a direction, and read by its lines again, a sum is the same; only its lift is lost.
+func TestAlong(t *testing.T) {
+	steps := short([]int64{-1, 2, 0, 1})
+	for _, u := range slopes {
+		s := steps.along(u)
+		if s.compare(along(u, -1, 2, 0, 1)) != 0 {
+			t.Errorf("%v: %v", u, s)
+		}
+		if l := s.lines(u); len(l) != 1 || l[0].steps.over(single(l[0].steps)).compare(steps) != 0 {
+			t.Errorf("%v: %v", u, l)
+		}
+	}
+}
+
+// A divisor that is found by way of strands is the one that is found plainly.
+func TestUnstranded(t *testing.T) {
+	r := rand.New(rand.NewPCG(8, 5))
+	count := 0
+	for range 400 {
+		piece := func() sum {
+			if r.IntN(3) == 0 {
+				return randomSum(r, 3, 1+r.IntN(2), 1, 2)
+			}
+			return along(slopes[r.IntN(5)], -1, r.Int64N(2), 1)
+		}
+		list := []sum{product(piece(), piece()), product(piece(), piece())}
+		for i, s := range list {
+			if len(s) > 0 {
+				list[i] = s.over(single(s))
+			}
+		}
+		if len(list[0]) < 2 || len(list[1]) < 2 {
+			continue
+		}
+		g, ok := hunt{shortest}.unstranded(list[0], list[1])
+		if !ok {
+			continue
+		}
+		q, _ := quotient(g.num, g.den, math.MaxInt)
+		if want := plainly(list); positive(q).compare(want) != 0 {
+			t.Fatalf("%v: %v, want %v", list, g, want)
+		}
+		count++
+	}
+	if count < 50 {
+		t.Errorf("%d", count)
+	}
+	if g := shortRatio(less1(0, 1023), product(less1(0, 31), less1(0, 33))); len(g.num) != 4 || len(g.den) != 2 {
+		t.Errorf("%v", g)
+	}
+}
+
+// Factors are parted by a variable that stands in some of them.
+func TestParted(t *testing.T) {
+	a, b := short([]int64{1, 1, 1}, []int64{2}), gathered(append(short([]int64{2, 1}), term{at: power(2, 1), coef: big.From(1)}))
+	if p, q, ok := parted(product(a, b)); !ok || product(p, q).compare(product(a, b)) != 0 || len(p) == 1 || len(q) == 1 {
+		t.Errorf("%t, %v, %v", ok, p, q)
+	}
+	if p, q, ok := parted(b); ok {
+		t.Errorf("%v, %v", p, q)
+	}
+}
+
 // endsEven tells what a division to the end tells, of sums with and without strands, numbers and terms.
 func TestEndsEven(t *testing.T) {
 	r := rand.New(rand.NewPCG(8, 4))
