@@ -107,7 +107,7 @@ func (l *luck) mixture(list []sum) sum {
 	}
 	var out sum
 	for _, s := range list {
-		c := api.Int{Mag: api.Nat{l.number()>>40 + 1}}
+		c := api.Int{Mag: api.Nat{l.Number()>>40 + 1}}
 		for _, t := range s {
 			out = append(out, term{at: t.at, coef: times(t.coef, c)})
 		}

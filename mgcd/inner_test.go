@@ -8,6 +8,7 @@ import (
 
 	"terrace/api"
 	"terrace/big"
+	"terrace/residue"
 )
 
 func randomMono(r *rand.Rand, most int) (m mono, d degrees) {
@@ -70,17 +71,17 @@ func TestLaws(t *testing.T) {
 			}
 		}
 		powers := slices.Clone(nodes)
-		var w law
+		var w residue.Law
 		for range 2*len(nodes) + 1 {
-			w.take(s.field, s.dot(numbers, powers))
+			w.Take(s.Field, s.dot(numbers, powers))
 			for e := range powers {
 				powers[e] = s.Times(powers[e], nodes[e])
 			}
 		}
-		if got := w.exponents(s.field, nodes); !w.settled() || !slices.Equal(got, want) {
+		if got := s.lawful(nodes, w); !w.Settled() || !slices.Equal(got, want) {
 			t.Fatalf("%v, want %v", got, want)
 		}
-		if got := s.solved(nodes, [][]uint64{w.list[:len(nodes)]}); !slices.Equal(got[0], numbers) {
+		if got := s.solved(nodes, [][]uint64{w.List[:len(nodes)]}); !slices.Equal(got[0], numbers) {
 			t.Fatalf("%v, want %v", got, numbers)
 		}
 	}
@@ -88,8 +89,8 @@ func TestLaws(t *testing.T) {
 	if what := thrown(func() { s.solved(twice, [][]uint64{{1, 2, 3}}) }); what != (unlucky{}) {
 		t.Errorf("nodes that are alike: %v", what)
 	}
-	strange := law{list: []uint64{1}, now: []uint64{s.One(), s.at[3]}, long: 1}
-	if what := thrown(func() { strange.exponents(s.field, twice) }); what != (unlucky{}) {
+	strange := residue.Law{List: []uint64{1}, Now: []uint64{s.One(), s.at[3]}, Long: 1}
+	if what := thrown(func() { s.lawful(twice, strange) }); what != (unlucky{}) {
 		t.Errorf("a node that is none of them: %v", what)
 	}
 }
@@ -219,10 +220,11 @@ func TestLucky(t *testing.T) {
 	seen := make(map[uint64]int)
 	for i, list := range [][]sum{{}, {a}, {b}, {a, b}, {b, a}, {product(a, b)}, {short([]int64{1, 2})}, {short([]int64{2, 1})}, {constant(api.Int{Mag: api.Nat{1, 1}})}} {
 		l, again := lucky(list...), lucky(list...)
-		if l.state != again.state || l.next().at != again.next().at {
+		number, first := again.Number(), l.Number()
+		if number != first || l.next().at != again.next().at {
 			t.Errorf("%d is another one the second time", i)
 		}
-		if seen[l.state]++; seen[l.state] > 1 {
+		if seen[number]++; seen[number] > 1 {
 			t.Errorf("%d is like another one", i)
 		}
 	}

@@ -219,18 +219,18 @@ func (p *plan) widened(s *spot, where support, k int) support {
 }
 
 // laws goes on till all have settled, but no further than there may be exponents: then the numbers alone tell all.
-func (p *plan) laws(s *spot, where support, k int) []law {
+func (p *plan) laws(s *spot, where support, k int) []residue.Law {
 	sofar := set(p.others[:k]...)
 	outer := p.courses(s, sofar.times(set(p.others[k])), set(p.others[k]))
 	inner := p.courses(s, sofar, sofar)
-	out := make([]law, where.count())
+	out := make([]residue.Law, where.count())
 	for n, settled := 0, false; n <= p.bounds[k] && !settled; n++ {
 		outer.advance(s.field)
 		inner.startAt(outer)
 		settled = true
 		for i, c := range p.coefficients(s, where, inner) {
-			out[i].take(s.field, c)
-			settled = settled && out[i].settled()
+			out[i].Take(s.Field, c)
+			settled = settled && out[i].Settled()
 		}
 	}
 	return out

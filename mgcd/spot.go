@@ -14,50 +14,31 @@ type spot struct {
 	at [api.MaxVars]uint64
 }
 
-// luck tells spots, one after the other, scattered so that next to none is a root of a polynomial that is not 0. What
-// they do not show is never taken for granted: bad luck costs time alone.
-type luck struct {
-	stock residue.Primes
-	state uint64
-}
+// luck tells spots, one after the other, scattered so that next to none is a root of a polynomial that is not 0.
+type luck struct{ residue.Luck }
 
-// lucky tells the luck of some sums. It hangs on each bit of them, so that nobody can choose them by the primes and the
-// points that they meet.
+// lucky tells the luck of some sums. It hangs on each bit of them.
 func lucky(list ...sum) *luck {
 	l := &luck{}
 	for range 2 { // what is stirred in last would else be all that counts
 		for _, s := range list {
 			for _, t := range s {
-				l.stir(t.at.high)
-				l.stir(t.at.low)
+				l.Stir(t.at.high)
+				l.Stir(t.at.low)
 				for _, limb := range t.coef.Mag {
-					l.stir(limb)
+					l.Stir(limb)
 				}
 			}
 		}
 	}
-	l.stock = residue.Below(1<<61 + l.number()>>3)
+	l.Settle()
 	return l
 }
 
-func (l *luck) stir(n uint64) {
-	l.state ^= n
-	l.state = l.number()
-}
-
-// number mixes the bits of one that grows by even steps (Steele, Lea, Flood).
-func (l *luck) number() uint64 {
-	l.state += 0x9e3779b97f4a7c15
-	n := l.state
-	n = (n ^ n>>30) * 0xbf58476d1ce4e5b9
-	n = (n ^ n>>27) * 0x94d049bb133111eb
-	return n ^ n>>31
-}
-
 func (l *luck) next() *spot {
-	s := &spot{field: field{l.stock.Next()}}
+	s := &spot{field: field{l.Field()}}
 	for v := range s.at {
-		s.at[v] = s.Of(api.Int{Mag: api.Nat{l.number()}})
+		s.at[v] = s.Of(api.Int{Mag: api.Nat{l.Number()}})
 		if s.at[v] == 0 { // no powers would tell its exponents
 			s.at[v] = s.One()
 		}

@@ -121,7 +121,7 @@ func (s sum) corners() []vector {
 	for range ways {
 		var way [api.MaxVars]int
 		for v := range way {
-			way[v] = int(l.number()>>32) - 1<<31
+			way[v] = int(l.Number()>>32) - 1<<31
 		}
 		// Of those that are equally far out, the first one in the order of terms is a corner, too.
 		list = append(list, slices.MaxFunc(s, func(t, u term) int { return cmp.Compare(t.at.far(way), u.at.far(way)) }).at.place())
