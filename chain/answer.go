@@ -9,8 +9,8 @@ import (
 const (
 	firstWork = 1 << 16 // of the first try
 	growth    = 8       // how much more each further one may do
-	perWork   = 16      // products modulo a prime that take as long as one of numbers in sums
-	favour    = 4       // how much more may be done to show that an answer is too long: it mostly is, where work is long
+	perWork   = 32      // products modulo a prime that take as long as one of numbers in sums
+	favour    = 2       // how much more may be done to show that an answer is too long: it mostly is, where work is long
 )
 
 // answer tells it, unless it is too long. All of that is proved: what is told, by exact divisions or by as many images

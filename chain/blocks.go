@@ -101,9 +101,12 @@ func (q *question) determinants(w *work) []sum {
 
 // matrix tells a block.
 func (q *question) matrix(w *work, b block, stride int) *matrix {
-	m := &matrix{work: w}
-	m.lay(q.a, stride, b.ofA, b.fixed+b.open)
-	m.lay(q.b, stride, b.ofB, b.fixed+b.open)
+	m := &matrix{work: w, columns: b.fixed}
+	if b.ofA+b.ofB > b.fixed {
+		m.columns += b.open
+	}
+	m.lay(q.a, stride, b.ofA)
+	m.lay(q.b, stride, b.ofB)
 	if b.heads {
 		m.head(0, constant(1))
 		m.head(b.ofA, constant(q.inA()))

@@ -1,10 +1,6 @@
 package chain
 
-import (
-	"slices"
-
-	"terrace/residue"
-)
+import "terrace/residue"
 
 // cheap is about how many products an inverse costs.
 const cheap = 128
@@ -29,7 +25,8 @@ func modulo(f residue.Field, n int) field {
 func (q *question) image(f field, a, b []uint64) []uint64 {
 	switch q.kind {
 	case disc:
-		return []uint64{f.discriminant(a)}
+		b[0] = f.discriminant(a, b)
+		return b[:1]
 	case single:
 		return f.subresultant(a, b, q.j)[q.j:]
 	}
@@ -49,20 +46,23 @@ func (q *question) parts() [2][]sum {
 // one cell alone, the other one's.
 func (f field) subresultant(a, b []uint64, j int) []uint64 {
 	num, den := f.One(), f.One()
+	more := f.One() // by what each row of the shorter one has too much
 	for len(a) > j+1 && len(b) > j+1 {
 		if len(a) < len(b) {
 			a, b = b, a
 			num = f.turned(num, (len(a)-1-j)*(len(b)-1-j))
 		}
 		m, n := len(a)-1, len(b)-1
-		if b[n] == 0 {
-			num, b = f.Times(num, a[m]), b[:n]
-			continue
+		lead, shorter := b[n], n
+		if lead == 0 {
+			num, b, shorter = f.Times(num, a[m]), b[:n], n-1
+		} else {
+			more = f.Times(more, f.reduce(a, b))
+			shorter = max(len(trimmed(a[:n]))-1, j)
+			num = f.turned(f.Times(num, f.Power(lead, uint64(m-shorter))), (m-shorter)*(n-j))
+			a = a[:shorter+1]
 		}
-		lead := b[n]
-		a = a[:max(f.reduce(a, b, &den, n-j), j+1)]
-		shrinks := m + 1 - len(a)
-		num = f.turned(f.Times(num, f.Power(lead, uint64(shrinks))), shrinks*(n-j))
+		den = f.Times(den, f.Power(more, uint64(n-shorter)))
 	}
 	if len(a) > j+1 {
 		a, b = b, a
@@ -71,33 +71,21 @@ func (f field) subresultant(a, b []uint64, j int) []uint64 {
 	return f.scaled(a, f.Times(num, f.Inverse(den)))
 }
 
-// reduce takes multiples of b, whose last coefficient is not 0, out of a, and tells how much of a is left. If that is a
-// multiple of the remainder, den is multiplied by what it is so for many rows.
-func (f field) reduce(a, b []uint64, den *uint64, rows int) int {
+// reduce takes multiples of b, whose last coefficient is not 0, out of a, and tells of what multiple of a. Most times a
+// is longer by one, and no inverse is needed.
+func (f field) reduce(a, b []uint64) uint64 {
 	last := len(b) - 1
-	if (len(a)-last)*len(a) < cheap {
-		for i := len(a) - len(b); i >= 0; i-- {
-			f.cross(a[:i+last+1], b)
-		}
-		*den = f.Times(*den, f.Power(b[last], uint64(rows*(len(a)-last))))
-	} else {
-		inverse := f.Inverse(b[last])
-		for i := len(a) - len(b); i >= 0; i-- {
-			f.takeOut(a[i:i+last], b[:last], f.Times(a[i+last], inverse))
-		}
+	lead, top := b[last], a[len(a)-1]
+	if len(a) == len(b)+1 {
+		more := f.Times(lead, lead)
+		f.Blend(a[:last], b, more, f.Minus(0, f.Times(lead, top)), f.Minus(f.Times(top, b[last-1]), f.Times(lead, a[last])))
+		return more
 	}
-	return len(trimmed(a[:last]))
-}
-
-// cross multiplies a by b's last coefficient, and takes a multiple of b out of its end.
-func (f field) cross(a, b []uint64) {
-	last := len(b) - 1
-	low, lead, top := len(a)-len(b), b[last], a[len(a)-1]
-	f.scaled(a[:low], lead)
-	part := a[low : low+last]
-	for k, c := range b[:last] {
-		part[k] = f.Minus(f.Times(part[k], lead), f.Times(top, c))
+	inverse := f.Inverse(lead)
+	for i := len(a) - len(b); i >= 0; i-- {
+		f.takeOut(a[i:i+last], b[:last], f.Times(a[i+last], inverse))
 	}
+	return f.One()
 }
 
 // takeOut takes c b out of a, which is as long.
@@ -110,9 +98,9 @@ func (f field) takeOut(a, b []uint64, c uint64) {
 	}
 }
 
-// discriminant tells that of p as it stands, which is not changed: each time that the first coefficient is 0, it is the
-// next one's square times that of the others.
-func (f field) discriminant(p []uint64) uint64 {
+// discriminant tells that of p as it stands, which is changed, there being room for its derivative: each time that the
+// first coefficient is 0, it is the next one's square times that of the others.
+func (f field) discriminant(p, room []uint64) uint64 {
 	scale := f.One()
 	m := len(p) - 1
 	for m > 1 && p[m] == 0 {
@@ -122,17 +110,11 @@ func (f field) discriminant(p []uint64) uint64 {
 	if m == 1 {
 		return scale
 	}
-	res := f.subresultant(slices.Clone(p[:m+1]), f.derived(p[:m+1]), 0)[0]
-	scale = f.turned(f.Times(scale, f.Inverse(p[m])), m*(m-1)/2)
-	return f.Times(res, scale)
-}
-
-func (f field) derived(p []uint64) []uint64 {
-	out := make([]uint64, len(p)-1)
-	for i := range out {
-		out[i] = f.Times(f.small[i+1], p[i+1])
+	for i := range m {
+		room[i] = f.Times(f.small[i+1], p[i+1])
 	}
-	return out
+	scale = f.turned(f.Times(scale, f.Inverse(p[m])), m*(m-1)/2)
+	return f.Times(f.subresultant(p[:m+1], room[:m], 0)[0], scale)
 }
 
 // turned tells a, with the other sign if n is odd.

@@ -95,7 +95,7 @@ func (s *spot) value(worth [2][]uint64, x uint64) uint64 {
 func (s *spot) isCommon() bool {
 	a, b := s.images(s.each(func(t term) uint64 { return s.Times(s.Of(t.coef), s.worth(t.at.without(s.q.v))) }))
 	if s.q.kind == disc {
-		return s.discriminant(a) == 0
+		return s.discriminant(a, b) == 0
 	}
 	return s.subresultant(a, b, 0)[0] == 0
 }

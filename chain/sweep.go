@@ -1,38 +1,31 @@
 package chain
 
-import (
-	"slices"
-
-	"terrace/residue"
-)
+import "terrace/residue"
 
 // sweep goes over a grid modulo one prime.
 type sweep struct {
 	field
-	grid     *grid
-	powers   [][][]uint64 // of each variable, where it is each number
-	inverses []uint64     // of small numbers
-	images   [2][]uint64  // a's and b's, where all other variables are numbers
-	left     [2][][]uint64
+	grid   *grid
+	powers [][][]uint64  // of each variable, where it is each number
+	tables [][][]uint64  // what coefficients are made of, for each variable
+	left   [2][][]uint64 // what a's and b's terms have become after each layer: room that is used again and again
+	images [2][]uint64   // a's and b's, where all other variables are numbers: such room too
 }
 
-// sweep makes all room that is needed again and again.
 func (g *grid) sweep(f residue.Field) *sweep {
 	high := max(g.q.inA(), g.q.inB())
 	for _, d := range g.bounds {
 		high = max(high, d)
 	}
-	s := &sweep{field: modulo(f, high), grid: g, inverses: make([]uint64, high+1)}
-	for n := 1; n <= high; n++ {
-		s.inverses[n] = s.Inverse(s.small[n])
-	}
+	s := &sweep{field: modulo(f, high), grid: g}
 	for k, u := range g.vars {
+		nodes := s.small[:g.bounds[k]+1]
 		most := max(degreeOf(g.q.a, u), degreeOf(g.q.b, u))
-		var table [][]uint64
-		for n := range g.bounds[k] + 1 {
-			table = append(table, s.powersOf(s.small[n], most))
+		var list [][]uint64
+		for _, n := range nodes {
+			list = append(list, s.powersOf(n, most))
 		}
-		s.powers = append(s.powers, table)
+		s.powers, s.tables = append(s.powers, list), append(s.tables, s.table(nodes))
 	}
 	for i, steps := range g.steps {
 		for _, l := range steps.layers {
@@ -41,6 +34,23 @@ func (g *grid) sweep(f residue.Field) *sweep {
 	}
 	s.images = [2][]uint64{make([]uint64, g.q.inA()+1), make([]uint64, g.q.inB()+1)}
 	return s
+}
+
+// table tells for each coefficient by what values at nodes are multiplied to make it (Lagrange).
+func (f field) table(nodes []uint64) [][]uint64 {
+	out := make([][]uint64, len(nodes))
+	for i := range out {
+		out[i] = make([]uint64, len(nodes))
+	}
+	all := f.WithRoots(nodes)
+	for k, node := range nodes {
+		part := f.WithoutRoot(all, node)
+		f.scaled(part, f.Inverse(f.Value(part, node)))
+		for i, c := range part {
+			out[i][k] = c
+		}
+	}
+	return out
 }
 
 // powersOf tells those of c up to the n-th.
@@ -80,16 +90,15 @@ func (s *sweep) fill(out []uint64, k int, values [2][]uint64) {
 		return
 	}
 	width := len(out) / (g.bounds[k] + 1)
-	rows := slices.Collect(slices.Chunk(out, width))
-	for n, row := range rows {
+	for n := range g.bounds[k] + 1 {
 		var next [2][]uint64
 		for i := range next {
 			next[i] = s.left[i][k]
 			s.fall(next[i], values[i], g.steps[i].layers[k], s.powers[k][n])
 		}
-		s.fill(row, k+1, next)
+		s.fill(out[n*width:(n+1)*width], k+1, next)
 	}
-	s.interpolate(rows)
+	s.interpolate(out, width, s.tables[k])
 }
 
 // fall tells what terms become where a variable has such powers.
@@ -101,19 +110,15 @@ func (s *sweep) fall(out, values []uint64, l layer, powers []uint64) {
 	}
 }
 
-// interpolate makes coefficients of values at 0, 1, 2 and on, by differences that are divided (Newton); each row stands
-// for many.
-func (s *sweep) interpolate(rows [][]uint64) {
-	for n := 1; n < len(rows); n++ {
-		for i := len(rows) - 1; i >= n; i-- {
-			for c, x := range rows[i] {
-				rows[i][c] = s.Times(s.Minus(x, rows[i-1][c]), s.inverses[n])
-			}
+// interpolate makes coefficients of values, those for one number after the other, each of such a width.
+func (s *sweep) interpolate(out []uint64, width int, table [][]uint64) {
+	values := make([]uint64, len(table))
+	for c := range width {
+		for n := range values {
+			values[n] = out[n*width+c]
 		}
-	}
-	for n := len(rows) - 2; n > 0; n-- {
-		for i := n; i < len(rows)-1; i++ {
-			s.takeOut(rows[i], rows[i+1], s.small[n])
+		for i, row := range table {
+			out[i*width+c] = s.Dot(row, values)
 		}
 	}
 }

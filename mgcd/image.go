@@ -91,11 +91,11 @@ func (f field) ratio(a, b []uint64) []uint64 {
 // nodes are as many as the sums, and not 0. With the nodes' polynomial divided by one of its factors, all other nodes
 // drop out of the sum of its coefficients times the sums. Two nodes that are alike are bad luck.
 func (f field) solved(nodes []uint64, lists [][]uint64) [][]uint64 {
-	all := f.withRoots(nodes)
+	all := f.WithRoots(nodes)
 	out := make([][]uint64, len(lists))
 	for j, node := range nodes {
-		part := f.withoutRoot(all, node)
-		own := f.Times(f.value(part, node), node)
+		part := f.WithoutRoot(all, node)
+		own := f.Times(f.Value(part, node), node)
 		if own == 0 {
 			panic(unlucky{})
 		}
@@ -104,49 +104,8 @@ func (f field) solved(nodes []uint64, lists [][]uint64) [][]uint64 {
 			if j == 0 {
 				out[i] = make([]uint64, len(nodes))
 			}
-			out[i][j] = f.Times(f.dot(part, sums), inverse)
+			out[i][j] = f.Times(f.Dot(part, sums), inverse)
 		}
-	}
-	return out
-}
-
-// withRoots tells the polynomial with the lead 1 and such roots.
-func (f field) withRoots(roots []uint64) []uint64 {
-	out := make([]uint64, len(roots)+1)
-	out[0] = f.One()
-	for n, root := range roots {
-		for i := n + 1; i > 0; i-- {
-			out[i] = f.Minus(out[i-1], f.Times(out[i], root))
-		}
-		out[0] = f.Minus(0, f.Times(out[0], root))
-	}
-	return out
-}
-
-// withoutRoot tells a divided by x - root, which divides it.
-func (f field) withoutRoot(a []uint64, root uint64) []uint64 {
-	out := make([]uint64, len(a)-1)
-	carry := uint64(0)
-	for i := len(out) - 1; i >= 0; i-- {
-		carry = f.Plus(a[i+1], f.Times(carry, root))
-		out[i] = carry
-	}
-	return out
-}
-
-func (f field) value(a []uint64, x uint64) uint64 {
-	out := uint64(0)
-	for i := len(a) - 1; i >= 0; i-- {
-		out = f.Plus(f.Times(out, x), a[i])
-	}
-	return out
-}
-
-// dot tells the sum of all a[i] b[i], as far as a goes.
-func (f field) dot(a, b []uint64) uint64 {
-	out := uint64(0)
-	for i, n := range a {
-		out = f.Plus(out, f.Times(n, b[i]))
 	}
 	return out
 }

@@ -73,7 +73,7 @@ func TestLaws(t *testing.T) {
 		powers := slices.Clone(nodes)
 		var w residue.Law
 		for range 2*len(nodes) + 1 {
-			w.Take(s.Field, s.dot(numbers, powers))
+			w.Take(s.Field, s.Dot(numbers, powers))
 			for e := range powers {
 				powers[e] = s.Times(powers[e], nodes[e])
 			}

@@ -31,7 +31,7 @@ func (f field) lawful(nodes []uint64, w residue.Law) []int {
 	}
 	var out []int
 	for e, node := range nodes {
-		if f.value(backward, node) == 0 {
+		if f.Value(backward, node) == 0 {
 			out = append(out, e)
 		}
 	}

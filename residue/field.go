@@ -65,6 +65,26 @@ func (f Field) Times(a, b uint64) uint64 {
 	return high - take
 }
 
+// Blend lays x a[i] + y b[i-1] + z b[i] into each a[i], b[-1] being 0; b is at least as long. Three products together
+// are less than the prime times 2^64, so that they are brought down at once.
+func (f Field) Blend(a, b []uint64, x, y, z uint64) {
+	before := uint64(0)
+	for i, n := range b[:len(a)] {
+		high, low := bits.Mul64(x, a[i])
+		more, less := bits.Mul64(y, before)
+		low, carry := bits.Add64(low, less, 0)
+		high += more + carry
+		more, less = bits.Mul64(z, n)
+		low, carry = bits.Add64(low, less, 0)
+		high += more + carry
+		take, _ := bits.Mul64(low*f.inverse, f.p)
+		if high < take {
+			high += f.p
+		}
+		a[i], before = high-take, n
+	}
+}
+
 // Power tells a to the n.
 func (f Field) Power(a, n uint64) uint64 {
 	out := f.one

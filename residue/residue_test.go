@@ -108,6 +108,41 @@ func TestField(t *testing.T) {
 	}
 }
 
+// Blend is what its words say, of the greatest residues too.
+func TestBlend(t *testing.T) {
+	r := rand.New(rand.NewPCG(7, 8))
+	for _, p := range []uint64{3, 101, 1<<61 - 1, top - 57} {
+		f := Modulo(p)
+		number := func() uint64 {
+			if r.IntN(2) == 0 {
+				return p - 1
+			}
+			return r.Uint64N(p)
+		}
+		for n := range 20 {
+			a, b := make([]uint64, n), make([]uint64, n+r.IntN(2))
+			for i := range a {
+				a[i] = number()
+			}
+			for i := range b {
+				b[i] = number()
+			}
+			x, y, z := number(), number(), number()
+			var want []uint64
+			for i := range a {
+				sum := f.Plus(f.Times(x, a[i]), f.Times(z, b[i]))
+				if i > 0 {
+					sum = f.Plus(sum, f.Times(y, b[i-1]))
+				}
+				want = append(want, sum)
+			}
+			if f.Blend(a, b, x, y, z); !slices.Equal(a, want) {
+				t.Fatalf("modulo %d: %v, want %v", p, a, want)
+			}
+		}
+	}
+}
+
 // Numbers are known once the product of primes is above twice their size, and not changed any more by a further one.
 func TestKnown(t *testing.T) {
 	numbers := []api.Int{{}, {Mag: api.Nat{1}}, {Neg: true, Mag: api.Nat{1}}, {Mag: api.Nat{5, 1 << 50}}, {Neg: true, Mag: api.Nat{7, 9, 1 << 40}}, {Neg: true, Mag: api.Nat{1<<63 - 1}}}
