@@ -88,24 +88,11 @@ func (f field) ratio(a, b []uint64) []uint64 {
 }
 
 // solved tells for each list of sums the numbers c with sums[s - 1] = the sum of all c[j] nodes[j]^s, s from 1 on. The
-// nodes are as many as the sums, and not 0. With the nodes' polynomial divided by one of its factors, all other nodes
-// drop out of the sum of its coefficients times the sums. Two nodes that are alike are bad luck.
+// nodes are as many as the sums, and not 0. Two nodes that are alike are bad luck.
 func (f field) solved(nodes []uint64, lists [][]uint64) [][]uint64 {
-	all := f.WithRoots(nodes)
-	out := make([][]uint64, len(lists))
-	for j, node := range nodes {
-		part := f.WithoutRoot(all, node)
-		own := f.Times(f.Value(part, node), node)
-		if own == 0 {
-			panic(unlucky{})
-		}
-		inverse := f.Inverse(own)
-		for i, sums := range lists {
-			if j == 0 {
-				out[i] = make([]uint64, len(nodes))
-			}
-			out[i][j] = f.Times(f.Dot(part, sums), inverse)
-		}
+	out, ok := f.Solve(nodes, lists)
+	if !ok {
+		panic(unlucky{})
 	}
 	return out
 }

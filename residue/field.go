@@ -1,5 +1,5 @@
 // Package residue: numbers modulo a prime, and primes enough to reckon by: what divisors of polynomials in one variable
-// (poly) and in several (mgcd) are found with, and long determinants (chain).
+// (poly) and in several (mgcd) are found with, long determinants (chain), and factors without common ones (basis).
 package residue
 
 import (

@@ -53,3 +53,26 @@ func (f Field) Dot(a, b []uint64) uint64 {
 	}
 	return high - take
 }
+
+// Solve tells for each list of sums the numbers c with sums[s - 1] = the sum of all c[j] nodes[j]^s, s from 1 on, and
+// false, if two nodes are alike. The nodes are not 0, and no list has fewer sums. With the nodes' polynomial divided by
+// one of its factors, all other nodes drop out of the sum of its coefficients times the sums.
+func (f Field) Solve(nodes []uint64, lists [][]uint64) ([][]uint64, bool) {
+	all := f.WithRoots(nodes)
+	out := make([][]uint64, len(lists))
+	for i := range out {
+		out[i] = make([]uint64, len(nodes))
+	}
+	for j, node := range nodes {
+		part := f.WithoutRoot(all, node)
+		own := f.Times(f.Value(part, node), node)
+		if own == 0 {
+			return nil, false
+		}
+		inverse := f.Inverse(own)
+		for i, sums := range lists {
+			out[i][j] = f.Times(f.Dot(part, sums), inverse)
+		}
+	}
+	return out, true
+}
