@@ -85,6 +85,7 @@ func (w *view) amounts(where []slot) []uint64 {
 		}
 		longest = max(longest, len(x.at))
 	}
+	w.setGuides(nodes)
 	sums := w.sums(w.start(), longest+1)
 	list := w.solved(nodes, sums)
 	for i := range where {

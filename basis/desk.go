@@ -12,8 +12,11 @@ type desk struct {
 	refused bool
 }
 
+// common tells the greatest common divisor, or refuses that, too, where it would take long to prove it, and the
+// quotients by it seem to be too long anyway.
 func (d *desk) common(a, b api.MPoly) api.MPoly {
-	if d.refused {
+	if d.refused || d.isHopeless(a, b, d.v) {
+		d.refused = true
 		return api.MPoly{}
 	}
 	p, e := mgcd.Gcd(a, b)

@@ -111,6 +111,20 @@ func TestWithoutImages(t *testing.T) {
 	}
 }
 
+// Luck hangs on all that is asked, signs and order too.
+func TestLucky(t *testing.T) {
+	seen := make(map[uint64]int)
+	p := func(sign int64, e int) api.MPoly {
+		return written(2, []term{{exponents{e, 1}, big.From(3 * sign)}, {exponents{}, big.From(1)}})
+	}
+	for i, l := range []*residue.Luck{lucky(nil, 0), lucky([]api.MPoly{p(1, 0)}, 0), lucky([]api.MPoly{p(1, 0)}, 1), lucky([]api.MPoly{p(-1, 0)}, 0), lucky([]api.MPoly{p(1, 2)}, 0), lucky([]api.MPoly{p(1, 0), p(1, 2)}, 0), lucky([]api.MPoly{p(1, 2), p(1, 0)}, 0)} {
+		n := l.Number()
+		if seen[n]++; seen[n] > 1 {
+			t.Errorf("%d is like another one", i)
+		}
+	}
+}
+
 // The heap tells the least one first.
 func TestPieces(t *testing.T) {
 	r := rand.New(rand.NewPCG(10, 6))
@@ -152,7 +166,8 @@ func TestBadLuck(t *testing.T) {
 		"alike nodes":    func() { w.solved([][]uint64{{w.One(), w.One()}}, [][]uint64{{1, 2}}) },
 		"numbers of 0":   func() { w.solved([][]uint64{{w.One()}}, [][]uint64{{0}}) },
 		"a node of 0":    func() { w.nodes(residue.Law{Long: 1, Now: []uint64{w.One()}}) },
-		"a value of 0":   func() { w.valued([]uint64{0, w.One()}, 0, w.One()) },
+		"a value of 0":   func() { w.scaledTo([]uint64{0, w.One()}, 0, w.One()) },
+		"nothing":        func() { w.scaledTo([]uint64{w.One()}, w.One(), 0) },
 		"a wrong number": func() { w.check([]uint64{w.One()}, []uint64{w.One()}, []uint64{w.One(), 0}) },
 		"a wrong class": func() {
 			s.known[0], s.known[1] = s.known[1], s.known[0]
@@ -210,6 +225,36 @@ func TestTooLong(t *testing.T) {
 	}
 	if newSpot(lucky(nil, 0)).isTooLong(power(2, 0, 500), power(2, 0, 501), 0) {
 		t.Error("what has no quotient is too long")
+	}
+}
+
+// isHopeless is a guess about what two have in common and what is left of them.
+func TestHopeless(t *testing.T) {
+	differ := func(n int) api.MPoly { // makes (x + y)^n - (z + w)^n
+		a := written(4, []term{{exponents{1}, big.From(1)}, {exponents{0, 1}, big.From(1)}})
+		b := written(4, []term{{exponents{0, 0, 1}, big.From(1)}, {exponents{0, 0, 0, 1}, big.From(1)}})
+		p, q := one(a), one(a)
+		for range n {
+			p, _ = mpoly.Mul(p, a)
+			q, _ = mpoly.Mul(q, b)
+		}
+		p, _ = mpoly.Sub(p, q)
+		return p
+	}
+	for _, c := range []struct {
+		m, n int
+		want bool
+	}{{1, 2, false}, {20, 30, false}, {30, 31, false}, {60, 90, false}, {90, 91, true}, {2, 255, true}, {4, 4, false}} {
+		p, q := differ(c.m), differ(c.n)
+		for v := range 4 {
+			s := newSpot(lucky([]api.MPoly{p, q}, v))
+			if s.isHopeless(p, q, v) != c.want || s.isHopeless(q, p, v) != c.want {
+				t.Errorf("%d and %d by %d: not %v", c.m, c.n, v, c.want)
+			}
+			if s.at = (numbers{}); s.isHopeless(p, p, v) {
+				t.Errorf("%d by %d: hopeless where nothing shows", c.m, v)
+			}
+		}
 	}
 }
 

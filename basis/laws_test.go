@@ -21,8 +21,8 @@ func deg(p api.MPoly, v int) int {
 	return d
 }
 
-// P10.1: of products of known factors, however often they stand in them, the classes are those that stand in all equally
-// often.
+// P10.1: of products of known factors, however often they stand in them, the classes are those that stand in all
+// equally often.
 func TestKnownFactors(t *testing.T) {
 	r := rand.New(rand.NewPCG(10, 1))
 	all := factors()
@@ -70,7 +70,8 @@ func apart(p, q api.MPoly, v int) bool {
 }
 
 // P10.2: no two have a common divisor, nor one with its derivative; each polynomial is, but for what does not count, a
-// product of powers; made again it is the same; nor do the order, signs, powers, doubles and what does not count matter.
+// product of powers; made again it is the same; nor do the order, signs, powers, doubles and what does not count
+// matter.
 func TestLaws(t *testing.T) {
 	r := rand.New(rand.NewPCG(10, 2))
 	for range 300 {

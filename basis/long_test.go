@@ -164,6 +164,13 @@ func TestFarTooLong(t *testing.T) {
 		refused(t, "far too long", []api.MPoly{differ(a, b, n), differ(a, b, 1)}, 0, api.ErrMPolyForm)
 	}
 	refused(t, "in two", []api.MPoly{differ(a, b, 255), mul(differ(a, b, 15), differ(a, b, 17))}, 0, api.ErrMPolyForm)
+	other := add(a, mul(number(4, 3), b))
+	refused(t, "in common", []api.MPoly{differ(a, b, 210), mul(cyclic(30, a, b), other)}, 0, api.ErrMPolyForm)
+	var want []api.MPoly
+	for _, d := range divisors(60) {
+		want = append(want, told(cyclic(d, a, b)))
+	}
+	held(t, "in common, and parted", append(family(4, 60, "x + y", "z + w"), mul(cyclic(60, a, b), other)), 0, append(want, told(other)))
 	held(t, "alone", []api.MPoly{differ(a, b, 1024)}, 0, []api.MPoly{told(differ(a, b, 1024))})
 	held(t, "by a long one", []api.MPoly{differ(a, b, 30), differ(a, b, 20)}, 0, []api.MPoly{told(differ(a, b, 10)), add(raised(a, 10), raised(b, 10)), add(raised(a, 20), mul(raised(a, 10), raised(b, 10)), raised(b, 20))})
 }

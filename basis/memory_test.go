@@ -52,7 +52,7 @@ func TestNewMemory(t *testing.T) {
 			t.Fatalf("%d: an argument was changed", n)
 		}
 		memory := []stretch{stretchOf(got), stretchOf(again), stretchOf(l)}
-		for _, p := range slices.Concat(copied(nil), got, again, distinct(l)) {
+		for _, p := range slices.Concat(got, again, distinct(l)) {
 			memory = append(memory, stretchOf(p.Terms))
 			for _, u := range p.Terms {
 				memory = append(memory, stretchOf(u.Exps), stretchOf(u.Coef.Mag))

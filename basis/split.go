@@ -111,12 +111,14 @@ func (s *splitter) levels(p api.MPoly) ([]api.MPoly, bool) {
 	now, _ := d.over(p, more)
 	var out []api.MPoly
 	for degree(now, s.v) > 0 {
-		next := d.common(now, more)
-		if here, _ := d.over(now, next); degree(here, s.v) > 0 {
-			out = append(out, here)
+		m, ok := s.meeting(s.piece(more), s.piece(now))
+		if !ok {
+			return nil, false
 		}
-		more, _ = d.over(more, next)
-		now = next
+		if degree(m.ofB, s.v) > 0 {
+			out = append(out, m.ofB)
+		}
+		more, now = m.ofP, m.both
 	}
 	return out, !d.refused
 }
@@ -145,8 +147,8 @@ func (s *splitter) lay(p piece) {
 	}
 }
 
-// meet splits p and one of the base by each other, and tells what is left of p; false, if that is refused. What the base
-// gets at its end has nothing in common with p any more.
+// meet splits p and one of the base by each other, and tells what is left of p; false, if that is refused. What the
+// base gets at its end has nothing in common with p any more.
 func (s *splitter) meet(p piece, i int) (piece, bool) {
 	b := s.base[i]
 	if p.degree == 0 || s.shared(p, b) == 0 {

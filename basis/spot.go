@@ -14,12 +14,10 @@ type (
 // lucky tells the luck of some polynomials and a variable. It hangs on each bit of them.
 func lucky(list []api.MPoly, v int) *residue.Luck {
 	l := &residue.Luck{}
-	for range 2 { // what is stirred in last would else be all that counts
-		l.Stir(uint64(v))
-		for _, p := range list {
-			for _, t := range p.Terms {
-				stir(l, t)
-			}
+	l.Stir(uint64(v))
+	for _, p := range list {
+		for _, t := range p.Terms {
+			stir(l, t)
 		}
 	}
 	l.Settle()
@@ -30,6 +28,11 @@ func stir(l *residue.Luck, t api.Term) {
 	for _, e := range t.Exps {
 		l.Stir(uint64(e))
 	}
+	sign := uint64(0)
+	if t.Coef.Neg {
+		sign = 1
+	}
+	l.Stir(sign)
 	for _, limb := range t.Coef.Mag {
 		l.Stir(limb)
 	}
@@ -57,8 +60,8 @@ func newSpot(l *residue.Luck) spot {
 	return spot{f, scattered(l, f)}
 }
 
-// image tells p, which is not 0, as a polynomial in v, its lead 1, where the others have the spot's numbers; nothing, if
-// a lower degree shows there than p has.
+// image tells p, which is not 0, as a polynomial in v, its lead 1, where the others have the spot's numbers; nothing,
+// if a lower degree shows there than p has.
 func (s spot) image(p api.MPoly, v int) []uint64 {
 	out := shaded(s.Field, p).image(powers(s.Field, s.at, highest(p)), v)
 	if out[len(out)-1] == 0 {

@@ -29,6 +29,7 @@ func (w *view) terms() ([]slot, bool) {
 		nodes[i], lists[i] = w.nodes(law), law.List
 		longest = max(longest, law.Long)
 	}
+	w.setGuides(nodes)
 	plain := w.solved(nodes, lists)
 	out := w.emptySlots(laws)
 	for u, d := range w.high {
@@ -37,13 +38,6 @@ func (w *view) terms() ([]slot, bool) {
 		}
 	}
 	return out, true
-}
-
-// turned tells the start with another number of u.
-func (w *view) turned(u int) numbers {
-	out := w.start()
-	out[u] = w.turn[u]
-	return out
 }
 
 // findExponents tells u's by what becomes of the terms' numbers when u's is turned.
@@ -65,13 +59,13 @@ func (w *view) findExponents(where []slot, u int, plain, turned [][]uint64) {
 	}
 }
 
-// laws tells that of each coefficient as soon as it holds for all of them; false, if there are more terms than may be: a
-// law is never longer than what it is about.
+// laws tells that of each coefficient as soon as it holds for all of them; false, if there are more terms than may be:
+// a law is never longer than what it is about.
 func (w *view) laws() ([]residue.Law, bool) {
 	laws := make([]residue.Law, w.slots())
-	for numbers := range w.course(w.start()) {
+	for c := w.course(w.start()); ; c.seekGuides(laws) {
 		settled := true
-		for i, n := range numbers {
+		for i, n := range c.next() {
 			laws[i].Take(w.Field, n)
 			settled = settled && laws[i].Settled()
 		}
@@ -82,7 +76,6 @@ func (w *view) laws() ([]residue.Law, bool) {
 			return laws, true
 		}
 	}
-	return nil, false
 }
 
 // areTooLong tells whether the laws of a class are, together.

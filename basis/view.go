@@ -1,7 +1,6 @@
 package basis
 
 import (
-	"iter"
 	"slices"
 
 	"terrace/residue"
@@ -16,11 +15,12 @@ type view struct {
 	way    numbers // where lines lead
 	shades []*shade
 	heads  []*shade // of the leads
+	guides []guide  // of the classes that are sought
 }
 
 func (s *search) view() *view {
 	f := s.luck.Field()
-	w := &view{search: s, Field: f, at: scattered(s.luck, f), turn: scattered(s.luck, f), way: scattered(s.luck, f)}
+	w := &view{search: s, Field: f, at: scattered(s.luck, f), turn: scattered(s.luck, f), way: scattered(s.luck, f), guides: make([]guide, len(s.open))}
 	for _, p := range s.list {
 		w.shades = append(w.shades, shaded(f, p))
 	}
@@ -94,82 +94,4 @@ func held(seen, shape []class) []class {
 		panic(unlucky{})
 	}
 	return seen
-}
-
-// sight tells what shows at a point of the classes that are sought: their coefficients by v, all times numbers that are
-// the same at all points. By getting a lead of 1 an image loses a number that is another one at each point, unless all
-// leads are numbers: then what is right is told by its value on a line through the point.
-func (w *view) sight(point numbers) []uint64 {
-	seen := w.classesAt(point)
-	var along []class
-	if len(w.heads) > 0 {
-		along = w.classesAlong(point)
-	}
-	var out []uint64
-	for _, i := range w.open {
-		image := seen[i].image
-		if along != nil {
-			image = w.valued(image, point[w.v], along[i].image[0])
-		}
-		out = append(out, image...)
-	}
-	return out
-}
-
-// valued tells the multiple of an image that has such a value at x, in its own memory.
-func (w *view) valued(image []uint64, x, value uint64) []uint64 {
-	now := w.Value(image, x)
-	if now == 0 {
-		panic(unlucky{})
-	}
-	return w.Scaled(image, w.Times(value, w.Inverse(now)))
-}
-
-// course tells what shows at each next point: all numbers of a point times w's own, v's apart.
-func (w *view) course(point numbers) iter.Seq[[]uint64] {
-	return func(yield func([]uint64) bool) {
-		for {
-			for u := range point {
-				if u != w.v {
-					point[u] = w.Times(point[u], w.at[u])
-				}
-			}
-			if !yield(w.sight(point)) {
-				return
-			}
-		}
-	}
-}
-
-// start tells where all numbers are 1, but that of v, which stays as it is.
-func (w *view) start() numbers {
-	var out numbers
-	for u := range out {
-		out[u] = w.One()
-	}
-	out[w.v] = w.at[w.v]
-	return out
-}
-
-// sums tells for each coefficient what shows of it at the next n points, which are one at the least.
-func (w *view) sums(start numbers, n int) [][]uint64 {
-	out := make([][]uint64, w.slots())
-	for numbers := range w.course(start) {
-		for i, c := range numbers {
-			out[i] = append(out[i], c)
-		}
-		if n--; n == 0 {
-			break
-		}
-	}
-	return out
-}
-
-// slots tells how many coefficients are sought.
-func (s *search) slots() int {
-	n := 0
-	for _, i := range s.open {
-		n += len(s.shape[i].image)
-	}
-	return n
 }

@@ -58,7 +58,7 @@ func (f field) subresultant(a, b []uint64, j int) []uint64 {
 			num, b, shorter = f.Times(num, a[m]), b[:n], n-1
 		} else {
 			more = f.Times(more, f.reduce(a, b))
-			shorter = max(len(trimmed(a[:n]))-1, j)
+			shorter = max(len(residue.Trimmed(a[:n]))-1, j)
 			num = f.turned(f.Times(num, f.Power(lead, uint64(m-shorter))), (m-shorter)*(n-j))
 			a = a[:shorter+1]
 		}
@@ -68,7 +68,7 @@ func (f field) subresultant(a, b []uint64, j int) []uint64 {
 		a, b = b, a
 	}
 	num = f.Times(num, f.Power(a[j], uint64(len(b)-j-2)))
-	return f.scaled(a, f.Times(num, f.Inverse(den)))
+	return f.Scaled(a, f.Times(num, f.Inverse(den)))
 }
 
 // reduce takes multiples of b, whose last coefficient is not 0, out of a, and tells of what multiple of a. Most times a
@@ -123,22 +123,6 @@ func (f field) turned(a uint64, n int) uint64 {
 		return f.Minus(0, a)
 	}
 	return a
-}
-
-// scaled tells a times c, in a's own memory.
-func (f field) scaled(a []uint64, c uint64) []uint64 {
-	for i, n := range a {
-		a[i] = f.Times(n, c)
-	}
-	return a
-}
-
-func trimmed(a []uint64) []uint64 {
-	n := len(a)
-	for n > 0 && a[n-1] == 0 {
-		n--
-	}
-	return a[:n]
 }
 
 // imageCost tells about how many products one image of the answer takes.

@@ -21,11 +21,9 @@ func (q *question) spot() *spot {
 	for i, p := range q.parts() {
 		s.terms[i] = joined(p, q.v)
 	}
-	for range 2 { // what is stirred in last would else be all that counts
-		l.Stir(uint64(q.j*api.MaxVars + q.v))
-		for _, terms := range s.terms {
-			stir(&l, terms)
-		}
+	l.Stir(uint64(q.j*api.MaxVars + q.v))
+	for _, terms := range s.terms {
+		stir(&l, terms)
 	}
 	l.Settle()
 	s.field = modulo(l.Field(), most)

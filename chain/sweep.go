@@ -45,7 +45,7 @@ func (f field) table(nodes []uint64) [][]uint64 {
 	all := f.WithRoots(nodes)
 	for k, node := range nodes {
 		part := f.WithoutRoot(all, node)
-		f.scaled(part, f.Inverse(f.Value(part, node)))
+		f.Scaled(part, f.Inverse(f.Value(part, node)))
 		for i, c := range part {
 			out[i][k] = c
 		}

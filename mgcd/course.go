@@ -1,5 +1,7 @@
 package mgcd
 
+import "terrace/residue"
+
 // course is a sum on its way from point to point: what each of its terms is worth, by what that changes with each step,
 // and with what power of x it stands.
 type course struct {
@@ -32,7 +34,7 @@ func (c *course) image(f field, degree int) []uint64 {
 		e := c.exp[i]
 		out[e] = f.Plus(out[e], n)
 	}
-	return trimmed(out)
+	return residue.Trimmed(out)
 }
 
 // courses are those of a plan's sums, side by side.

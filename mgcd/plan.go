@@ -269,8 +269,9 @@ func (p *plan) sight(s *spot, c *courses) []uint64 {
 	}
 	inverse := s.Inverse(g[p.degree])
 	if p.by == leftOf {
-		return s.ratio(a, s.scaled(g, inverse))[:p.top]
+		left, _ := s.Divide(a, s.Scaled(g, inverse))
+		return left[:p.top]
 	}
 	lead := c.lead.image(s.field, 0)
-	return s.scaled(g, s.Times(inverse, lead[0]))[:p.top]
+	return s.Scaled(g, s.Times(inverse, lead[0]))[:p.top]
 }

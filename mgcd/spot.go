@@ -20,14 +20,12 @@ type luck struct{ residue.Luck }
 // lucky tells the luck of some sums. It hangs on each bit of them.
 func lucky(list ...sum) *luck {
 	l := &luck{}
-	for range 2 { // what is stirred in last would else be all that counts
-		for _, s := range list {
-			for _, t := range s {
-				l.Stir(t.at.high)
-				l.Stir(t.at.low)
-				for _, limb := range t.coef.Mag {
-					l.Stir(limb)
-				}
+	for _, s := range list {
+		for _, t := range s {
+			l.Stir(t.at.high)
+			l.Stir(t.at.low)
+			for _, limb := range t.coef.Mag {
+				l.Stir(limb)
 			}
 		}
 	}
@@ -64,7 +62,7 @@ func (s *spot) image(p sum, v, degree int) []uint64 {
 		e := t.at.exp(v)
 		out[e] = s.Plus(out[e], s.Times(s.Of(t.coef), s.worth(t.at.without(set(v)))))
 	}
-	return trimmed(out)
+	return residue.Trimmed(out)
 }
 
 // sharedDegrees tells those of the greatest common divisor of a and b as far as this spot shows them: none is too low.
@@ -108,5 +106,5 @@ func (f field) divides(b, a []uint64) bool {
 	if len(b) == 0 {
 		return len(a) == 0
 	}
-	return len(f.pseudoRest(a, b)) == 0
+	return len(f.PseudoRest(a, b)) == 0
 }

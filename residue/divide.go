@@ -47,19 +47,29 @@ func (f Field) Divide(a, b []uint64) (quo, rest []uint64) {
 	return a[last:], Trimmed(a[:last])
 }
 
-// Common tells the greatest common divisor of a and b, whose leads are 1, and its own, too.
+// PseudoRest tells the pseudo-remainder of a by b, which is not 0, but for a factor that is a number, in a's own memory;
+// b may be multiplied by a number. Most times a is longer by one: then no inverse is needed.
+func (f Field) PseudoRest(a, b []uint64) []uint64 {
+	last := len(b) - 1
+	if len(a) != len(b)+1 || last == 0 {
+		_, rest := f.Divide(a, f.Monic(b))
+		return rest
+	}
+	lead, top := b[last], a[last+1]
+	f.Blend(a[:last], b, f.Times(lead, lead), f.Minus(0, f.Times(lead, top)), f.Minus(f.Times(top, b[last-1]), f.Times(lead, a[last])))
+	return Trimmed(a[:last])
+}
+
+// Common tells the greatest common divisor of a and b, which are not 0; its lead is 1.
 func (f Field) Common(a, b []uint64) []uint64 {
 	a, b = slices.Clone(a), slices.Clone(b)
-	for {
-		_, rest := f.Divide(a, b)
-		switch len(rest) {
-		case 0:
-			return b
-		case 1:
-			return []uint64{f.one}
+	for len(b) > 1 {
+		a, b = b, f.PseudoRest(a, b)
+		if len(b) == 0 {
+			return f.Monic(a)
 		}
-		a, b = b, f.Monic(rest)
 	}
+	return []uint64{f.one}
 }
 
 // Without tells a divided by b, whose lead is 1, and which divides it, in new memory.

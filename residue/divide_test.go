@@ -50,6 +50,30 @@ func TestDivide(t *testing.T) {
 	}
 }
 
+// A pseudo-remainder is a multiple of the remainder, and what it is by stays what it is, but for a factor.
+func TestPseudoRest(t *testing.T) {
+	r := rand.New(rand.NewPCG(8, 6))
+	for _, p := range []uint64{101, top - 57} {
+		f := Modulo(p)
+		for range 400 {
+			m := r.IntN(9)
+			a, b := f.Scaled(randomPoly(r, f, m), r.Uint64N(p-1)+1), f.Scaled(randomPoly(r, f, max(0, m-r.IntN(3))), r.Uint64N(p-1)+1)
+			monic := f.Monic(slices.Clone(b))
+			_, want := f.Divide(slices.Clone(a), monic)
+			got := f.PseudoRest(slices.Clone(a), b)
+			if len(got) != len(want) || !slices.Equal(f.Monic(b), monic) {
+				t.Fatalf("modulo %d: %v by %v: %v, want %v", p, a, b, got, want)
+			}
+			if len(got) > 0 && !slices.Equal(f.Monic(got), f.Monic(want)) {
+				t.Fatalf("modulo %d: %v by %v: %v, want a multiple of %v", p, a, b, got, want)
+			}
+		}
+		if got := f.PseudoRest(nil, []uint64{1, 2}); len(got) > 0 {
+			t.Errorf("0: %v", got)
+		}
+	}
+}
+
 // What two polynomials have in common is found, and neither is changed.
 func TestCommon(t *testing.T) {
 	r := rand.New(rand.NewPCG(8, 2))
