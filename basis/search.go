@@ -17,7 +17,8 @@ type unlucky struct{}
 
 // search finds classes where short ones hide in polynomials that have no short quotients: as they show modulo primes
 // where all variables but v are numbers, so that nothing else is ever written out. Points and primes hang on each bit
-// of the polynomials, and what is found is held against further ones.
+// of the polynomials, and what is found is held against further ones. That proves nothing, but it fails with a chance
+// near nil; a proof would go through all terms of the long quotients.
 type search struct {
 	v     int
 	list  []api.MPoly // what is to be split
